@@ -1,0 +1,1 @@
+"""Rows of a machine that bring their papers."""

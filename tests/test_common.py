@@ -1,0 +1,153 @@
+"""Point 2: what holds of all parts: whole numbers, how arguments are handed in, and that nothing is changed or kept."""
+
+import inspect
+import unittest
+
+from paperrows import forms, kinds, rows, rules
+from paperrows.errors import NoClaims, NoForm, NoRows, NoText
+
+STOP = ("stop",)
+FORM = (0,) * 10
+
+# The names of each one's arguments; those behind the bar are handed in by their names alone.
+INTERFACE = (
+    (forms.worth, "form worths |"),
+    (forms.holds_at, "form worths |"),
+    (forms.added, "one other |"),
+    (forms.often, "form many |"),
+    (forms.contrary, "form |"),
+    (forms.led, "form others |"),
+    (forms.form_text, "form | names"),
+    (forms.read_form, "text | names"),
+    (rows.look_rows, "rows |"),
+    (rows.joins, "rows |"),
+    (rows.reads, "row |"),
+    (rows.sets, "row |"),
+    (rows.look_claims, "rows claims |"),
+    (rules.Rule, "given areas ends |"),
+    (rules.is_start, "rule p memory |"),
+)
+
+
+def nested(many):
+    """So many lists, each but the last one within another one."""
+    thing = []
+    for _ in range(many - 1):
+        thing = [thing]
+    return thing
+
+
+class WholeNumberTest(unittest.TestCase):
+
+    def test_whole_numbers(self):
+        for number in (0, 1, -1, 10 ** 60 - 1, -10 ** 60 + 1, 10 ** 500):
+            self.assertIs(kinds.is_whole(number), True)
+
+    def test_what_is_none(self):
+        for thing in (True, False, None, "1", "", (1,), [1], {1: 1}, rules.Rule()):
+            self.assertIs(kinds.is_whole(thing), False)
+
+    def test_told_numbers_may_be_handed_in_again(self):
+        great = forms.often((1, 10 ** 60 - 1), 10 ** 60 - 1)
+        greater = forms.often(forms.often(great, 10 ** 60 - 1), 10 ** 60 - 1)
+        self.assertEqual(forms.added(greater, forms.often(greater, -1)), (0, 0))
+        self.assertTrue(forms.holds_at(greater, [1]))
+        self.assertEqual(forms.led((0, 1), [greater]), greater)
+
+
+class ArgumentsTest(unittest.TestCase):
+
+    def test_places_and_names(self):
+        for call, told in INTERFACE:
+            with self.subTest(call.__name__):
+                parameters = inspect.signature(call).parameters.values()
+                either = [one.name for one in parameters if one.kind == one.POSITIONAL_OR_KEYWORD]
+                by_name = [one.name for one in parameters if one.kind == one.KEYWORD_ONLY]
+                self.assertEqual(" ".join([*either, "|", *by_name]), told)
+
+    def test_defined_where_the_interface_lists_them(self):
+        for call, _ in INTERFACE:
+            module = inspect.getmodule(call)
+            self.assertIs(getattr(module, call.__name__), call)
+        self.assertIn("facts", vars(rules.Rule))
+
+    def test_what_has_a_default(self):
+        for call, _ in INTERFACE:
+            for one in inspect.signature(call).parameters.values():
+                self.assertEqual(one.default, () if call is rules.Rule else one.empty)
+
+    def test_handed_in_by_names(self):
+        self.assertEqual(forms.worth(worths=[2], form=(1, 3)), 7)
+        self.assertTrue(forms.holds_at(worths=[2], form=(1, 3)))
+        self.assertEqual(forms.led(others=[(1,)], form=(1, 3)), (4,))
+        self.assertEqual(forms.form_text(names=["x"], form=(1, 3)), "3*x + 1")
+        self.assertEqual(forms.read_form(names=["x"], text="3*x + 1"), (1, 3))
+        self.assertIsNone(rows.look_claims(claims={}, rows=(STOP,)))
+        self.assertTrue(rules.is_start(memory={}, p=(0, 0, 0), rule=rules.Rule()))
+
+    def test_names_are_not_handed_in_by_place(self):
+        with self.assertRaises(TypeError):
+            forms.form_text((1,), [])
+        with self.assertRaises(TypeError):
+            forms.read_form("1", [])
+
+
+class NothingIsChangedTest(unittest.TestCase):
+
+    def test_lists_stay(self):
+        worths, others, names = [1, 2], [(1,), (2,)], ["b", "a"]
+        forms.worth((0, 1, 1), worths)
+        forms.holds_at((0, 1, 1), worths)
+        forms.led((0, 1, 1), others)
+        forms.form_text((0, 1, 1), names=names)
+        forms.read_form("b + a", names=names)
+        self.assertEqual((worths, others, names), ([1, 2], [(1,), (2,)], ["b", "a"]))
+
+    def test_lists_stay_where_something_is_refused(self):
+        names, claims = ["b", "b"], {1: None, 0: [FORM], "a": 5}
+        with self.assertRaises(NoForm):
+            forms.read_form("b", names=names)
+        with self.assertRaises(NoClaims):
+            rows.look_claims((STOP,), claims)
+        self.assertEqual((names, claims), (["b", "b"], {1: None, 0: [FORM], "a": 5}))
+
+    def test_the_same_is_told_again(self):
+        self.assertEqual([forms.read_form("x", names=["x"]) for _ in range(3)], [(0, 1)] * 3)
+        self.assertEqual(rules.Rule().facts(), rules.Rule().facts())
+
+    def test_two_rules_know_nothing_of_one_another(self):
+        one, other = rules.Rule([(1, 0, 0, 0)]), rules.Rule([(2, 0, 0, 0)])
+        one.facts().append(3)
+        self.assertEqual((one.facts(), other.facts()), ([(1, 0, 0, 0)], [(2, 0, 0, 0)]))
+
+
+class WhichRefusalTest(unittest.TestCase):
+
+    def test_the_one_that_stands_first(self):
+        with self.assertRaises(NoForm):
+            forms.read_form(None, names=None)
+        with self.assertRaises(NoText):
+            forms.read_form(None, names=[])
+        with self.assertRaises(NoRows):
+            rows.look_claims(None, None)
+
+    def test_great_and_deep_things_are_refused_as_others_are(self):
+        for thing in (nested(30), [0] * 39000, "x" * 20000, {at: None for at in range(39000)}):
+            with self.assertRaises(NoForm):
+                forms.contrary(thing)
+            with self.assertRaises(NoForm):
+                forms.worth((0, 1), thing)
+            with self.assertRaises(NoForm):
+                forms.read_form("x", names=thing)
+            with self.assertRaises(NoText):
+                forms.read_form(thing, names=["x"])
+            with self.assertRaises(NoRows):
+                rows.look_rows(thing)
+            with self.assertRaises(NoClaims):
+                rows.look_claims((("jump", 1), STOP), thing)
+            self.assertFalse(rules.is_start(thing, thing, thing))
+            self.assertFalse(rules.is_start(rules.Rule(), thing, {}))
+
+
+if __name__ == "__main__":
+    unittest.main()
