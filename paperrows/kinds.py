@@ -37,3 +37,14 @@ def is_form_of(thing, length):
 def are_forms(things, most, length):
     """Tell whether things are a list or tuple of at most so many forms, each of so many numbers."""
     return is_sequence(things) and len(things) <= most and all([is_form_of(thing, length) for thing in things])
+
+
+def copied(thing):
+    """Tell a thing that is equal, but with lists and dicts of its own, those within it too."""
+    if isinstance(thing, list):
+        return [copied(part) for part in thing]
+    if isinstance(thing, tuple):
+        return tuple([copied(part) for part in thing])
+    if isinstance(thing, dict):
+        return {key: copied(part) for key, part in thing.items()}
+    return thing

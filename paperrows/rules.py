@@ -47,6 +47,30 @@ def is_start(rule, p, memory):
     return all([_area_begins(area, p, memory) for area in rule.areas])
 
 
+def look_rule(rule):
+    """Refuse what is no rule."""
+    if not isinstance(rule, Rule):
+        raise NoRule("no rule")
+
+
+def areas_at(rule, p):
+    """Tell of each area its first place, its end, rights, low and high, where p0, p1, p2 have these worths."""
+    return [_area_at(area, p) for area in rule.areas]
+
+
+def may_read(areas, number, place):
+    """Tell whether a place is one of the area with this number."""
+    return number < len(areas) and areas[number][0] <= place < areas[number][1]
+
+
+def may_write(areas, number, place, held):
+    """Tell whether this worth may be put at a place of the area with this number."""
+    if not may_read(areas, number, place):
+        return False
+    _, _, rights, low, high = areas[number]
+    return rights == "both" and (low is None or low <= held <= high)
+
+
 def _is_area(area):
     if not isinstance(area, tuple) or len(area) != 5:
         return False
@@ -68,13 +92,16 @@ def _is_memory(memory):
     return all([is_number(place) and is_number(held) for place, held in memory.items()])
 
 
+def _area_at(area, p):
+    first, end, rights, low, high = area
+    if low is None:
+        return worth(first, p), worth(end, p), rights, None, None
+    return worth(first, p), worth(end, p), rights, worth(low, p), worth(high, p)
+
+
 def _area_begins(area, p, memory):
-    first, end, _, low, high = area
-    place, behind = worth(first, p), worth(end, p)
+    place, behind, _, low, high = _area_at(area, p)
     # Asked ahead of any walk over the places: there may be as many as the forms' numbers tell.
     if behind - place > MOST_PLACES:
         return False
-    if low is None:
-        return True
-    least, most = worth(low, p), worth(high, p)
-    return all([is_between(memory.get(at, 0), least, most) for at in range(place, behind)])
+    return low is None or all([is_between(memory.get(at, 0), low, high) for at in range(place, behind)])

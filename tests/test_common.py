@@ -3,8 +3,8 @@
 import inspect
 import unittest
 
-from paperrows import forms, kinds, rows, rules
-from paperrows.errors import NoClaims, NoForm, NoRows, NoText
+from paperrows import bundles, forms, kinds, papers, rows, rules, runs, wants
+from paperrows.errors import NoClaims, NoForm, NoNumber, NoPapers, NoRows, NoRule, NoStart, NoText
 
 STOP = ("stop",)
 FORM = (0,) * 10
@@ -26,6 +26,31 @@ INTERFACE = (
     (rows.look_claims, "rows claims |"),
     (rules.Rule, "given areas ends |"),
     (rules.is_start, "rule p memory |"),
+    (runs.run, "rows rule p | memory budget"),
+    (runs.way, "rows rule p | memory budget"),
+    (wants.wants, "rows claims rule |"),
+    (papers.shows, "paper hints unlikes goal |"),
+    (papers.size, "paper |"),
+    (bundles.Bundle, "rows claims papers |"),
+)
+
+# What is handed in where an argument is left out.
+DEFAULTS = {
+    (rules.Rule, "given"): (),
+    (rules.Rule, "areas"): (),
+    (rules.Rule, "ends"): (),
+    (runs.run, "memory"): (),
+    (runs.run, "budget"): 1000,
+    (runs.way, "memory"): (),
+    (runs.way, "budget"): 1000,
+    (bundles.Bundle, "papers"): (),
+}
+
+# The methods that the interface lists, each defined in its class itself.
+METHODS = (
+    (rules.Rule, "facts __eq__"),
+    (runs.Run, "memory __eq__ __str__"),
+    (bundles.Bundle, "claims papers size __len__ __eq__"),
 )
 
 
@@ -69,12 +94,14 @@ class ArgumentsTest(unittest.TestCase):
         for call, _ in INTERFACE:
             module = inspect.getmodule(call)
             self.assertIs(getattr(module, call.__name__), call)
-        self.assertIn("facts", vars(rules.Rule))
+        for kind, names in METHODS:
+            for name in names.split():
+                self.assertIn(name, vars(kind))
 
     def test_what_has_a_default(self):
         for call, _ in INTERFACE:
             for one in inspect.signature(call).parameters.values():
-                self.assertEqual(one.default, () if call is rules.Rule else one.empty)
+                self.assertEqual(one.default, DEFAULTS.get((call, one.name), one.empty))
 
     def test_handed_in_by_names(self):
         self.assertEqual(forms.worth(worths=[2], form=(1, 3)), 7)
@@ -84,12 +111,21 @@ class ArgumentsTest(unittest.TestCase):
         self.assertEqual(forms.read_form(names=["x"], text="3*x + 1"), (1, 3))
         self.assertIsNone(rows.look_claims(claims={}, rows=(STOP,)))
         self.assertTrue(rules.is_start(memory={}, p=(0, 0, 0), rule=rules.Rule()))
+        told = runs.run(budget=5, memory={}, p=(0, 0, 0), rule=rules.Rule(), rows=(STOP,))
+        self.assertEqual(told.word, "stopped")
+        self.assertEqual(len(runs.way(budget=5, memory={}, p=(0, 0, 0), rule=rules.Rule(), rows=(STOP,))), 1)
+        self.assertEqual(wants.wants(rule=rules.Rule(), claims={}, rows=(STOP,)), [])
+        self.assertEqual(papers.size(paper=("never", [])), 1)
+        self.assertEqual(len(bundles.Bundle(papers=[], claims={}, rows=(STOP,))), 1)
 
     def test_names_are_not_handed_in_by_place(self):
         with self.assertRaises(TypeError):
             forms.form_text((1,), [])
         with self.assertRaises(TypeError):
             forms.read_form("1", [])
+        for call in (runs.run, runs.way):
+            with self.assertRaises(TypeError):
+                call((STOP,), rules.Rule(), (0, 0, 0), {})
 
 
 class NothingIsChangedTest(unittest.TestCase):
@@ -145,6 +181,20 @@ class WhichRefusalTest(unittest.TestCase):
                 rows.look_rows(thing)
             with self.assertRaises(NoClaims):
                 rows.look_claims((("jump", 1), STOP), thing)
+            for call in (runs.run, runs.way):
+                with self.assertRaises(NoRows):
+                    call(thing, thing, thing)
+                with self.assertRaises(NoRule):
+                    call((STOP,), thing, thing)
+                with self.assertRaises(NoStart):
+                    call((STOP,), rules.Rule(), thing, memory=thing)
+                with self.assertRaises(NoNumber):
+                    call((STOP,), rules.Rule(), (0, 0, 0), budget=thing)
+            with self.assertRaises(NoRule):
+                wants.wants((STOP,), {}, thing)
+            with self.assertRaises(NoPapers):
+                papers.size(thing)
+            self.assertFalse(papers.shows(thing, [], [], (0,)))
             self.assertFalse(rules.is_start(thing, thing, thing))
             self.assertFalse(rules.is_start(rules.Rule(), thing, {}))
 
