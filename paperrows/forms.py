@@ -89,6 +89,13 @@ def read_form(text, *, names):
     return form
 
 
+def read_number(figures):
+    """Tell the number, from 0 on, that is written by at most four hundred figures."""
+    if not 1 <= len(figures) <= LONGEST_NUMBER or not all([sign in FIGURES for sign in figures]):
+        raise NoText("no number of at most four hundred figures")
+    return int(figures)
+
+
 def _look_form(form):
     if not is_form(form):
         raise NoForm("no form")
@@ -153,13 +160,7 @@ def _read_term(term, places):
         return sign, rest
     figures, star, name = rest.partition("*")
     if star == "":
-        return sign * _read_number(figures), None
+        return sign * read_number(figures), None
     if name not in places:
         raise NoText("a name that no unknown has")
-    return sign * _read_number(figures), name
-
-
-def _read_number(figures):
-    if not 1 <= len(figures) <= LONGEST_NUMBER or not all([sign in FIGURES for sign in figures]):
-        raise NoText("no number of at most four hundred figures")
-    return int(figures)
+    return sign * read_number(figures), name

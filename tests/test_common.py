@@ -3,8 +3,8 @@
 import inspect
 import unittest
 
-from paperrows import bundles, forms, kinds, papers, rows, rules, runs, wants
-from paperrows.errors import NoClaims, NoForm, NoNumber, NoPapers, NoRows, NoRule, NoStart, NoText
+from paperrows import bundles, deeds, finder, forms, kinds, looker, papers, rows, rules, runs, texts, wants
+from paperrows.errors import NoClaims, NoDeeds, NoForm, NoNumber, NoPapers, NoRows, NoRule, NoStart, NoText
 
 STOP = ("stop",)
 FORM = (0,) * 10
@@ -32,6 +32,14 @@ INTERFACE = (
     (papers.shows, "paper hints unlikes goal |"),
     (papers.size, "paper |"),
     (bundles.Bundle, "rows claims papers |"),
+    (looker.lets_by, "bundle rule |"),
+    (looker.lacking, "bundle rule |"),
+    (finder.found, "hints unlikes goal |"),
+    (finder.shown, "rows claims rule |"),
+    (texts.bundle_text, "bundle |"),
+    (texts.read_bundle, "text |"),
+    (deeds.look_deeds, "deeds |"),
+    (deeds.deeds_run, "deeds rule p | memory budget"),
 )
 
 # What is handed in where an argument is left out.
@@ -44,6 +52,8 @@ DEFAULTS = {
     (runs.way, "memory"): (),
     (runs.way, "budget"): 1000,
     (bundles.Bundle, "papers"): (),
+    (deeds.deeds_run, "memory"): (),
+    (deeds.deeds_run, "budget"): 300,
 }
 
 # The methods that the interface lists, each defined in its class itself.
@@ -123,9 +133,9 @@ class ArgumentsTest(unittest.TestCase):
             forms.form_text((1,), [])
         with self.assertRaises(TypeError):
             forms.read_form("1", [])
-        for call in (runs.run, runs.way):
+        for call, done in ((runs.run, (STOP,)), (runs.way, (STOP,)), (deeds.deeds_run, ())):
             with self.assertRaises(TypeError):
-                call((STOP,), rules.Rule(), (0, 0, 0), {})
+                call(done, rules.Rule(), (0, 0, 0), {})
 
 
 class NothingIsChangedTest(unittest.TestCase):
@@ -195,6 +205,18 @@ class WhichRefusalTest(unittest.TestCase):
             with self.assertRaises(NoPapers):
                 papers.size(thing)
             self.assertFalse(papers.shows(thing, [], [], (0,)))
+            self.assertIs(looker.lets_by(thing, thing), False)
+            self.assertIs(looker.lets_by(bundles.Bundle((STOP,), {}), thing), False)
+            with self.assertRaises(NoRule):
+                finder.shown((STOP,), {}, thing)
+            with self.assertRaises(NoText):
+                texts.read_bundle(thing)
+            with self.assertRaises(NoDeeds):
+                deeds.look_deeds(thing)
+            with self.assertRaises(NoDeeds):
+                deeds.look_deeds((thing,))
+            with self.assertRaises(NoStart):
+                deeds.deeds_run((), rules.Rule(), thing)
             self.assertFalse(rules.is_start(thing, thing, thing))
             self.assertFalse(rules.is_start(rules.Rule(), thing, {}))
 
