@@ -4,6 +4,7 @@ import copy
 import itertools
 import random
 import unittest
+import unittest.mock
 
 from paperrows.finder import found
 from paperrows.papers import shows, size
@@ -288,6 +289,21 @@ class AgainstAnotherWayTest(FinderTest):
             self.found(hints, [], goal)
             # All unknowns the same let all hints hold, and the goal come to what it tells of constants alone.
             self.lacking(hints, [], form(-1, *goal[1:]))
+
+
+    def test_moves_that_never_come_round(self):
+        # From the first move on, moves are chosen as they are, else, after many that gain nothing.
+        chance = random.Random(25)
+        with unittest.mock.patch("paperrows.corners.PATIENCE", -1):
+            for _ in range(300):
+                many = chance.randint(1, 4)
+                hints = [self.numbers(chance, many, 2) for _ in range(chance.randint(0, 6))]
+                unlikes = [self.numbers(chance, many, 2) for _ in range(chance.choice((0, 0, 1)))]
+                goal = self.numbers(chance, many, 2)
+                if is_findable(hints, unlikes, goal):
+                    self.found(hints, unlikes, goal)
+                else:
+                    self.lacking(hints, unlikes, goal)
 
 
 class GreatTest(FinderTest):
