@@ -100,6 +100,15 @@ class TextTest(unittest.TestCase):
             self.assertEqual(read_bundle(bundle_text(bundle)), bundle)
         self.assertEqual(paper_line(within(2, "apart")), "apart 0 (apart 0 sum 1 0 2 | sum 1 0 2) | sum 1 0 2")
 
+    def test_ten_within_the_other_one(self):
+        told = SUM
+        for at in range(10):
+            told = ("apart", at, NEVER, told)
+        bundle = Bundle((STOP,), {}, [told, ("split", (1,), within(9), told[3])])
+        self.assertEqual(read_bundle(bundle_text(bundle)), bundle)
+        with self.assertRaises(NoText):
+            read_bundle(with_paper(f"apart 0 never | ({paper_line(told)})"))
+
     def test_numbers_of_four_hundred_figures(self):
         claims = {1: [(FOUR_HUNDRED, -FOUR_HUNDRED) + (0,) * 7 + (-FOUR_HUNDRED,)]}
         papers = [
