@@ -5,6 +5,8 @@ from paperrows.kinds import copied, is_sequence
 from paperrows.papers import size_of_all
 from paperrows.rows import look_claims
 
+SHORTEST = (("stop",),)
+
 
 class Bundle:
     """Rows, claims of what the registers hold at places among them, and things that may be papers of them."""
@@ -14,7 +16,7 @@ class Bundle:
         if not is_sequence(papers):
             raise NoPapers("papers are no list or tuple")
         self.rows = rows
-        self._claims = copied(claims)
+        self._claims = {place: list(claims[place]) for place in claims}
         self._papers = copied(list(papers))
 
     def __eq__(self, other):
@@ -27,7 +29,7 @@ class Bundle:
 
     def claims(self):
         """Tell the claims, a list for each told place."""
-        return copied(self._claims)
+        return {place: list(self._claims[place]) for place in self._claims}
 
     def papers(self):
         """Tell the papers as a list."""
@@ -36,3 +38,22 @@ class Bundle:
     def size(self):
         """Tell how many sums and nevers are in all papers."""
         return size_of_all(self._papers)
+
+
+def bundle_of(rows, claims, papers):
+    """Tell the bundle of rows and claims that are known to be some, and of papers that no one else holds."""
+    bundle = Bundle(SHORTEST, {})
+    bundle.rows = rows
+    bundle._claims = {place: list(claims[place]) for place in claims}
+    bundle._papers = papers
+    return bundle
+
+
+def held_claims(bundle):
+    """Tell a bundle's claims as it holds them: to be read alone."""
+    return bundle._claims
+
+
+def held_papers(bundle):
+    """Tell a bundle's papers as it holds them: to be read alone."""
+    return bundle._papers

@@ -1,16 +1,17 @@
 """Deeds: a small language over four names, and how its deeds are run."""
 
 from paperrows.errors import NoDeeds
-from paperrows.forms import worth
-from paperrows.kinds import are_forms, is_between, is_form, is_number
-from paperrows.rows import LAST_AREA
-from paperrows.rules import areas_at, may_read, may_write
+from paperrows.kinds import are_forms
+from paperrows.rules import areas_at
 from paperrows.runs import begun_memory
 
 NAMES = ("a", "b", "c", "d")
+PLACES = {"a": 0, "b": 1, "c": 2, "d": 3}
 MOST_DEEDS = 20
 MOST_WITHIN = 4
 MOST_KEEPS = 4
+MOST_NUMBER = 1000000
+LAST_AREA = 2
 SUM_LENGTH = 5
 KEEP_LENGTH = 8
 
@@ -24,60 +25,132 @@ PARTS = {
 }
 
 
-class Course:
-    """Deeds that are being run: what the names and the memory hold, and how much of the budget is left."""
+class Steps:
+    """Deeds as steps one behind another, as they are read: tuples of a word, the deed's number, and what it needs.
 
-    def __init__(self, areas, p, held, budget):
+    A `test` goes on to the step behind it where it is so, else to another one; a `jump` to another one; `keep` and
+    `behind` are where the run comes to a test and where an if is over.
+    """
+
+    def __init__(self):
+        self.steps = []
+        self.many = 0
+
+    def add_all(self, deeds, left):
+        """Put deeds, with at most so many within one another, behind the steps; refuse what are none."""
+        for deed in deeds:
+            if self.many == MOST_DEEDS or left == 0 or not _is_deed(deed):
+                raise NoDeeds(self.many)
+            number = self.many
+            self.many += 1
+            if deed[0] == "let":
+                self.steps.append(("let", number, PLACES[deed[1]], deed[2]))
+            elif deed[0] == "read":
+                self.steps.append(("read", number, PLACES[deed[1]], deed[3], deed[2]))
+            elif deed[0] == "write":
+                self.steps.append(("write", number, PLACES[deed[3]], deed[2], deed[1]))
+            else:
+                self._add_test(deed, number, left - 1)
+
+    def _add_test(self, deed, number, left):
+        word, (sort, form), keeps, deeds = deed[:4]
+        self.steps.append(("keep", number, keeps))
+        test = len(self.steps)
+        self.steps.append(None)
+        self.add_all(deeds, left)
+        jump = len(self.steps)
+        self.steps.append(("jump", number, test - 1))
+        self.steps[test] = ("test", number, sort == "below", form, len(self.steps))
+        if word == "if":
+            self.add_all(deed[4], left)
+            self.steps[jump] = ("jump", number, len(self.steps))
+            self.steps.append(("behind", number, deed[5]))
+
+
+class Course:
+    """Steps that are being run: what the names and the memory hold, and how much of the budget is left."""
+
+    def __init__(self, steps, areas, p, held, budget):
+        self.steps = steps
         self.areas = areas
-        self.worths = {"a": p[0], "b": p[1], "c": p[2], "d": 0}
+        self.worths = [*p, 0]
         self.held = held
         self.left = budget
+        self.at = 0
 
-    def sum_here(self, form):
-        """Tell what a sum of a, b, c, d comes to."""
-        return worth(form, [self.worths[name] for name in NAMES])
+    def run(self, stations):
+        """Run up to the end, or, where they are asked for, up to the next station: a `keep` or `behind`.
 
-    def test_here(self, test):
-        """Tell whether a test is so."""
-        told = self.sum_here(test[1])
-        return told < 0 if test[0] == "below" else told == 0
+        Tell a word and a deed's number: `ended`, `open`, `forbidden` (the deed's), `keep` or `behind` (the place's).
+        """
+        steps, end = self.steps, len(self.steps)
+        while self.at < end:
+            step = steps[self.at]
+            word = step[0]
+            if word == "jump":
+                self.at = step[2]
+            elif word == "keep" or word == "behind":
+                self.at += 1
+                if stations:
+                    return word, step[1]
+            elif self.left == 0:
+                return "open", None
+            elif word == "test":
+                self.left -= 1
+                told = _sum_here(step[3], self.worths)
+                so = told < 0 if step[2] else told == 0
+                self.at = self.at + 1 if so else step[4]
+            elif self._is_done(step):
+                self.left -= 1
+                self.at += 1
+            else:
+                return "forbidden", step[1]
+        return "ended", None
+
+    def _is_done(self, step):
+        """Do a let, read or write and tell True, or tell False where it is forbidden."""
+        word, _, name, form = step[:4]
+        told = _sum_here(form, self.worths)
+        if word == "let":
+            self.worths[name] = told
+            return True
+        number = step[4]
+        if number >= len(self.areas):
+            return False
+        first, end, rights, low, high = self.areas[number]
+        if told < first or told >= end:
+            return False
+        if word == "read":
+            self.worths[name] = self.held.get(told, 0)
+            return True
+        put = self.worths[name]
+        if rights == "read" or (low is not None and not low <= put <= high):
+            return False
+        self.held[told] = put
+        return True
 
 
 def look_deeds(deeds):
     """Refuse what are no deeds."""
-    if not isinstance(deeds, tuple):
-        raise NoDeeds(0)
-    _look_all(deeds, 0, MOST_WITHIN)
+    steps_of(deeds)
 
 
 def deeds_run(deeds, rule, p, *, memory=(), budget=300):
     """Run deeds from a start on: tell a word, the worths of the names, the memory, and the deed that is forbidden."""
-    look_deeds(deeds)
+    steps = steps_of(deeds).steps
     held = begun_memory(rule, p, memory, budget)
-    course = Course(areas_at(rule, p), p, held, budget)
-    word, number = _run_all(deeds, 0, course) or ("ended", None)
-    return word, tuple([course.worths[name] for name in NAMES]), course.held, number
+    course = Course(steps, areas_at(rule, p), p, held, budget)
+    word, number = course.run(False)
+    return word, tuple(course.worths), held, number
 
 
-def inner_deeds(deed):
-    """Tell the tuples of deeds that stand in a deed."""
-    return [part for letter, part in zip(PARTS[deed[0]], deed[1:]) if letter == "d"]
-
-
-def how_many(deeds):
-    """Tell how many deeds there are in all, those within one another too."""
-    return len(deeds) + sum([how_many(inner) for deed in deeds for inner in inner_deeds(deed)])
-
-
-def _look_all(deeds, number, left):
-    """Look at deeds of which the first has this number; tell the number of the deed behind them."""
-    for deed in deeds:
-        if number == MOST_DEEDS or left == 0 or not _is_deed(deed):
-            raise NoDeeds(number)
-        number += 1
-        for inner in inner_deeds(deed):
-            number = _look_all(inner, number, left - 1)
-    return number
+def steps_of(deeds):
+    """Tell the steps of deeds; refuse what are none."""
+    if not isinstance(deeds, tuple):
+        raise NoDeeds(0)
+    told = Steps()
+    told.add_all(deeds, MOST_WITHIN)
+    return told
 
 
 def _is_deed(thing):
@@ -88,16 +161,19 @@ def _is_deed(thing):
     # A list can't be looked for among the words of a dict.
     if not isinstance(word, str) or word not in PARTS or len(thing) != 1 + len(PARTS[word]):
         return False
-    return all([_is_part(letter, part) for letter, part in zip(PARTS[word], thing[1:])])
+    for letter, part in zip(PARTS[word], thing[1:]):
+        if not _is_part(letter, part):
+            return False
+    return True
 
 
 def _is_part(letter, part):
-    if letter == "x":
-        return isinstance(part, str) and part in NAMES
-    if letter == "g":
-        return is_between(part, 0, LAST_AREA)
     if letter == "s":
         return _is_sum(part)
+    if letter == "x":
+        return isinstance(part, str) and part in PLACES
+    if letter == "g":
+        return type(part) is int and 0 <= part <= LAST_AREA
     if letter == "t":
         return _is_test(part)
     if letter == "k":
@@ -106,65 +182,18 @@ def _is_part(letter, part):
 
 
 def _is_sum(thing):
-    return is_form(thing) and len(thing) == SUM_LENGTH and all([is_number(number) for number in thing])
+    if not isinstance(thing, tuple) or len(thing) != SUM_LENGTH:
+        return False
+    for number in thing:
+        if type(number) is not int or number > MOST_NUMBER or number < -MOST_NUMBER:
+            return False
+    return True
 
 
 def _is_test(thing):
     return isinstance(thing, tuple) and len(thing) == 2 and thing[0] in ("below", "same") and _is_sum(thing[1])
 
 
-def _run_all(deeds, number, course):
-    """Run deeds of which the first has this number; tell how the run ends among them, None if it goes on behind."""
-    for deed in deeds:
-        end = _run_deed(deed, number, course)
-        if end is not None:
-            return end
-        number += how_many((deed,))
-    return None
-
-
-def _run_deed(deed, number, course):
-    if deed[0] == "while":
-        return _run_while(deed, number, course)
-    if course.left == 0:
-        return "open", None
-    if deed[0] == "if":
-        return _run_if(deed, number, course)
-    if _is_forbidden(deed, course):
-        return "forbidden", number
-    course.left -= 1
-    if deed[0] == "let":
-        course.worths[deed[1]] = course.sum_here(deed[2])
-    elif deed[0] == "read":
-        course.worths[deed[1]] = course.held.get(course.sum_here(deed[3]), 0)
-    else:
-        course.held[course.sum_here(deed[2])] = course.worths[deed[3]]
-    return None
-
-
-def _run_if(deed, number, course):
-    _, test, _, deeds, others, _ = deed
-    course.left -= 1
-    if course.test_here(test):
-        return _run_all(deeds, number + 1, course)
-    return _run_all(others, number + 1 + how_many(deeds), course)
-
-
-def _run_while(deed, number, course):
-    _, test, _, deeds = deed
-    while course.left > 0:
-        course.left -= 1
-        if not course.test_here(test):
-            return None
-        end = _run_all(deeds, number + 1, course)
-        if end is not None:
-            return end
-    return "open", None
-
-
-def _is_forbidden(deed, course):
-    if deed[0] == "read":
-        return not may_read(course.areas, deed[2], course.sum_here(deed[3]))
-    if deed[0] == "write":
-        return not may_write(course.areas, deed[1], course.sum_here(deed[2]), course.worths[deed[3]])
-    return False
+def _sum_here(form, worths):
+    constant, a, b, c, d = form
+    return constant + a * worths[0] + b * worths[1] + c * worths[2] + d * worths[3]

@@ -1,7 +1,7 @@
 """Forms: sums of a constant and a number for each unknown, and their texts."""
 
 from paperrows.errors import NoForm, NoText
-from paperrows.kinds import is_form, is_sequence, is_whole
+from paperrows.kinds import are_whole, is_form, is_sequence, is_whole
 
 LETTERS = "abcdefghijklmnopqrstuvwxyz"
 FIGURES = "0123456789"
@@ -12,7 +12,7 @@ LONGEST_NUMBER = 400
 def worth(form, worths):
     """Tell what a form comes to where its unknowns have these worths."""
     _look_form(form)
-    if not is_sequence(worths) or not all([is_whole(number) for number in worths]):
+    if not is_sequence(worths) or not are_whole(worths):
         raise NoForm("the worths are no whole numbers")
     if len(worths) != len(form) - 1:
         raise NoForm("not one worth for each unknown")
@@ -62,10 +62,14 @@ def led(form, others):
         _look_form(other)
     if len(others) == 0:
         return form
-    told = (form[0],) + (0,) * (len(others[0]) - 1)
+    length = len(others[0])
+    told = [form[0]] + [0] * (length - 1)
     for number, other in zip(form[1:], others):
-        told = added(told, often(other, number))
-    return told
+        if len(other) != length:
+            raise NoForm("the forms are not as long as one another")
+        if number != 0:
+            told = [taken + number * further for taken, further in zip(told, other)]
+    return tuple(told)
 
 
 def form_text(form, *, names):
@@ -74,7 +78,7 @@ def form_text(form, *, names):
     _look_names(names)
     if len(names) != len(form) - 1:
         raise NoForm("not one name for each unknown")
-    return _text_of(form, names)
+    return text_of(form, names)
 
 
 def read_form(text, *, names):
@@ -82,16 +86,36 @@ def read_form(text, *, names):
     _look_names(names)
     if not isinstance(text, str):
         raise NoText("no text at all")
-    form = _summed(_signed_terms(text), names)
+    form = understood(text, names)
     # Many ways of writing a form are understood up to here; just one of them is its text.
-    if _text_of(form, names) != text:
+    if text_of(form, names) != text:
         raise NoText("a text that no form has")
     return form
 
 
+def text_of(form, names):
+    """Tell the text of what is known to be a form, by what are known to be its names."""
+    terms = [_term_text(number, name) for number, name in zip(form[1:], names) if number != 0]
+    if form[0] != 0 or len(terms) == 0:
+        terms.append(str(form[0]))
+    if len(terms) == 1:
+        return terms[0]
+    return terms[0] + "".join([_further_text(term) for term in terms[1:]])
+
+
+def understood(text, names):
+    """Tell a form by a text that may be written in other ways than a form's text is; refuse what isn't understood."""
+    places = {name: at + 1 for at, name in enumerate(names)}
+    numbers = [0] * (len(names) + 1)
+    for term in _signed_terms(text):
+        number, name = _read_term(term, places)
+        numbers[places.get(name, 0)] += number
+    return tuple(numbers)
+
+
 def read_number(figures):
     """Tell the number, from 0 on, that is written by at most four hundred figures."""
-    if not 1 <= len(figures) <= LONGEST_NUMBER or not all([sign in FIGURES for sign in figures]):
+    if len(figures) > LONGEST_NUMBER or not (figures.isdecimal() and figures.isascii()):
         raise NoText("no number of at most four hundred figures")
     return int(figures)
 
@@ -114,13 +138,6 @@ def _is_name(name):
     return name[0] in LETTERS and all([sign in LETTERS or sign in FIGURES for sign in name])
 
 
-def _text_of(form, names):
-    terms = [_term_text(number, name) for number, name in zip(form[1:], names) if number != 0]
-    if form[0] != 0 or len(terms) == 0:
-        terms.append(str(form[0]))
-    return terms[0] + "".join([_further_text(term) for term in terms[1:]])
-
-
 def _term_text(number, name):
     if number == 1:
         return name
@@ -141,15 +158,6 @@ def _signed_terms(text):
     for sign, term in zip(words[1::2], words[2::2]):
         terms.append("-" + term if sign == "-" else term)
     return terms
-
-
-def _summed(terms, names):
-    places = {name: at + 1 for at, name in enumerate(names)}
-    numbers = [0] * (len(names) + 1)
-    for term in terms:
-        number, name = _read_term(term, places)
-        numbers[places.get(name, 0)] += number
-    return tuple(numbers)
 
 
 def _read_term(term, places):

@@ -5,18 +5,18 @@ GREATEST = 1000000
 
 def is_whole(thing):
     """Tell whether a thing is a whole number."""
-    # For Python a truth is an int, too.
-    return isinstance(thing, int) and not isinstance(thing, bool)
+    # A truth is an int for isinstance, too.
+    return type(thing) is int
 
 
 def is_between(thing, least, most):
     """Tell whether a thing is a whole number from least to most."""
-    return is_whole(thing) and least <= thing <= most
+    return type(thing) is int and least <= thing <= most
 
 
 def is_number(thing):
     """Tell whether a thing is a whole number of the size that is handed in outside of forms."""
-    return is_between(thing, -GREATEST, GREATEST)
+    return type(thing) is int and -GREATEST <= thing <= GREATEST
 
 
 def is_sequence(thing):
@@ -24,27 +24,45 @@ def is_sequence(thing):
     return isinstance(thing, (list, tuple))
 
 
+def are_whole(things):
+    """Tell whether all things of a list or tuple are whole numbers."""
+    for thing in things:
+        if type(thing) is not int:
+            return False
+    return True
+
+
 def is_form(thing):
     """Tell whether a thing is a form."""
-    return isinstance(thing, tuple) and len(thing) > 0 and all([is_whole(number) for number in thing])
+    return isinstance(thing, tuple) and len(thing) > 0 and are_whole(thing)
 
 
 def is_form_of(thing, length):
-    """Tell whether a thing is a form of so many numbers."""
-    return is_form(thing) and len(thing) == length
+    """Tell whether a thing is a form of so many numbers, at least one."""
+    return isinstance(thing, tuple) and len(thing) == length and are_whole(thing)
 
 
 def are_forms(things, most, length):
     """Tell whether things are a list or tuple of at most so many forms, each of so many numbers."""
-    return is_sequence(things) and len(things) <= most and all([is_form_of(thing, length) for thing in things])
+    if not isinstance(things, (list, tuple)) or len(things) > most:
+        return False
+    for thing in things:
+        if not is_form_of(thing, length):
+            return False
+    return True
+
+
+def furthest(form):
+    """Tell the greatest number of a form, signs aside."""
+    return max(max(form), -min(form))
 
 
 def copied(thing):
     """Tell a thing that is equal, but with lists and dicts of its own, those within it too."""
     if isinstance(thing, list):
-        return [copied(part) for part in thing]
+        return [part if type(part) is int else copied(part) for part in thing]
     if isinstance(thing, tuple):
-        return tuple([copied(part) for part in thing])
+        return tuple([part if type(part) is int else copied(part) for part in thing])
     if isinstance(thing, dict):
         return {key: copied(part) for key, part in thing.items()}
     return thing

@@ -1,15 +1,78 @@
 """Papers: sums that show what must hold, and how great they are."""
 
 from paperrows.errors import NoPapers
-from paperrows.forms import added, contrary
-from paperrows.kinds import is_form, is_whole
+from paperrows.forms import contrary
+from paperrows.kinds import is_form
 
 MOST_WITHIN = 10
 
 
+class Forms:
+    """How a paper is looked at by forms as they are; fields look at it by forms that are put into numbers."""
+
+    def left(self, k, goal, weights, hints):
+        """Tell to what a goal comes, k times, less all hints, so often; None where that is no constant alone."""
+        told = [k * number for number in goal]
+        for weight, hint in zip(weights, hints):
+            if weight != 0:
+                told = [number - weight * further for number, further in zip(told, hint)]
+        return None if any(told[1:]) else told[0]
+
+    def further(self, form):
+        """Tell a split's form, and its contrary."""
+        return form, contrary(form)
+
+    def parted(self, unlike):
+        """Tell the two forms of which one holds where an unlike isn't 0: above it, and below it."""
+        return (unlike[0] - 1, *unlike[1:]), contrary(unlike)
+
+
+class Look:
+    """What a paper is looked at with: unlikes and a goal, and how their forms are reckoned with."""
+
+    def __init__(self, forms, length, unlikes, goal):
+        self.forms = forms
+        self.length = length
+        self.unlikes = unlikes
+        self.goal = goal
+
+    def shows(self, paper, hints, left):
+        """Tell whether anything, with at most so many splits and aparts within one another, shows the goal."""
+        if not _is_paper(paper):
+            return False
+        if paper[0] == "sum":
+            return self._sum_shows(paper[1], paper[2], hints)
+        if paper[0] == "never":
+            return self._never_shows(paper[1], hints)
+        if left == 0:
+            return False
+        if paper[0] == "split":
+            if len(paper[1]) != self.length:
+                return False
+            further, other = self.forms.further(paper[1])
+        else:
+            if paper[1] >= len(self.unlikes):
+                return False
+            further, other = self.forms.parted(self.unlikes[paper[1]])
+        return self.shows(paper[2], hints + [further], left - 1) and self.shows(paper[3], hints + [other], left - 1)
+
+    def _sum_shows(self, k, weights, hints):
+        if len(weights) != len(hints):
+            return False
+        told = self.forms.left(k, self.goal, weights, hints)
+        return told is not None and told > -k
+
+    def _never_shows(self, weights, hints):
+        if len(weights) != len(hints):
+            return False
+        # No goal, less the hints: that is above 0 where the hints come to less.
+        told = self.forms.left(0, self.goal, weights, hints)
+        return told is not None and told > 0
+
+
 def shows(paper, hints, unlikes, goal):
     """Tell whether anything is a paper that shows a goal by hints and unlikes."""
-    return _shows(paper, list(hints), unlikes, goal, MOST_WITHIN)
+    return Look(Forms(), len(goal), unlikes, goal).shows(paper, list(hints), MOST_WITHIN)
 
 
 def size(paper):
@@ -22,74 +85,28 @@ def size_of_all(papers):
     return sum([size(paper) for paper in papers])
 
 
-def parted(unlike):
-    """Tell the two forms of which one holds where an unlike isn't 0: above it, and below it."""
-    return added(unlike, (-1,) + (0,) * (len(unlike) - 1)), contrary(unlike)
-
-
-def _shows(paper, hints, unlikes, goal, left):
-    """Tell whether a paper with at most so many splits and aparts within one another shows a goal."""
-    if not _is_paper(paper):
-        return False
-    if paper[0] == "sum":
-        return _sum_shows(paper[1], paper[2], hints, goal)
-    if paper[0] == "never":
-        return _never_shows(paper[1], hints, goal)
-    if left == 0:
-        return False
-    if paper[0] == "split":
-        if len(paper[1]) != len(goal):
-            return False
-        further, other = paper[1], contrary(paper[1])
-    else:
-        if paper[1] >= len(unlikes):
-            return False
-        further, other = parted(unlikes[paper[1]])
-    if not _shows(paper[2], hints + [further], unlikes, goal, left - 1):
-        return False
-    return _shows(paper[3], hints + [other], unlikes, goal, left - 1)
-
-
-def _sum_shows(k, weights, hints, goal):
-    if len(weights) != len(hints):
-        return False
-    total = _weighted(hints, weights, len(goal))
-    rest = [k * number - taken for number, taken in zip(goal, total)]
-    return rest[0] > -k and not any(rest[1:])
-
-
-def _never_shows(weights, hints, goal):
-    if len(weights) != len(hints):
-        return False
-    total = _weighted(hints, weights, len(goal))
-    return total[0] < 0 and not any(total[1:])
-
-
-def _weighted(forms, weights, length):
-    """Tell the numbers of the form to which forms of this length come, each so often."""
-    total = [0] * length
-    for form, weight in zip(forms, weights):
-        if weight != 0:
-            total = [number + weight * further for number, further in zip(total, form)]
-    return total
-
-
 def _is_paper(thing):
     """Tell whether a thing is a paper, whatever papers it has within it."""
     if not isinstance(thing, tuple) or len(thing) == 0:
         return False
     # Of anything, a word may stand there that is no text: it is compared, never looked for.
-    if thing[0] == "sum":
-        return len(thing) == 3 and is_whole(thing[1]) and thing[1] >= 1 and _are_weights(thing[2])
-    if thing[0] == "never":
+    word = thing[0]
+    if word == "sum":
+        return len(thing) == 3 and type(thing[1]) is int and thing[1] >= 1 and _are_weights(thing[2])
+    if word == "never":
         return len(thing) == 2 and _are_weights(thing[1])
-    if thing[0] == "split":
+    if word == "split":
         return len(thing) == 4 and is_form(thing[1])
-    return thing[0] == "apart" and len(thing) == 4 and is_whole(thing[1]) and thing[1] >= 0
+    return word == "apart" and len(thing) == 4 and type(thing[1]) is int and thing[1] >= 0
 
 
 def _are_weights(things):
-    return isinstance(things, list) and all([is_whole(thing) and thing >= 0 for thing in things])
+    if not isinstance(things, list):
+        return False
+    for thing in things:
+        if type(thing) is not int or thing < 0:
+            return False
+    return True
 
 
 def _size(paper, left):

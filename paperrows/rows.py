@@ -1,10 +1,8 @@
 """Rows of the machine, and the claims of what registers hold at places among them."""
 
 from paperrows.errors import NoClaims, NoRows
-from paperrows.kinds import are_forms, is_between, is_number, is_whole
+from paperrows.kinds import are_forms, are_whole
 
-LAST_REGISTER = 5
-LAST_AREA = 2
 MOST_ROWS = 300
 MOST_CLAIMS = 8
 CLAIM_LENGTH = 10
@@ -24,25 +22,40 @@ PARTS = {
     "same": "abt",
     "stop": "",
 }
+# From where to where the numbers of a part go; how far a place goes hangs on the rows.
+SPANS = {
+    "d": (0, 5),
+    "a": (0, 5),
+    "b": (0, 5),
+    "s": (0, 5),
+    "n": (-1000000, 1000000),
+    "g": (0, 2),
+    "t": (1, 1000000),
+}
+# The words of rows that lead to a place, which is their last part.
+LEADS = ("jump", "below", "same")
+# The words of rows that set a register, their first part, and do nothing else.
+RECKONS = ("set", "copy", "plus", "minus", "more", "fold")
 
 
 def look_rows(rows):
     """Refuse what are no rows."""
     if not isinstance(rows, tuple) or len(rows) == 0:
         raise NoRows(0)
+    many = len(rows)
     for at, row in enumerate(rows[:MOST_ROWS]):
-        if not _is_row(row, len(rows)):
+        if not _is_row(row, many):
             raise NoRows(at)
-    if len(rows) > MOST_ROWS:
+    if many > MOST_ROWS:
         raise NoRows(MOST_ROWS)
     if rows[-1][0] not in ("jump", "stop"):
-        raise NoRows(len(rows) - 1)
+        raise NoRows(many - 1)
 
 
 def joins(rows):
     """Tell the places to which a jump, below or same leads, rising."""
     look_rows(rows)
-    return sorted({place for row in rows for place in _parts_of(row, "t")})
+    return sorted({row[-1] for row in rows if row[0] in LEADS})
 
 
 def reads(row):
@@ -57,14 +70,15 @@ def sets(row):
 
 def look_claims(rows, claims):
     """Refuse what are no claims of these rows."""
-    told = joins(rows)
-    if not isinstance(claims, dict) or not all([is_whole(place) for place in claims]):
+    look_rows(rows)
+    if not isinstance(claims, dict) or not are_whole(list(claims)):
         raise NoClaims(None)
-    for place in told:
+    led = {row[-1] for row in rows if row[0] in LEADS}
+    for place in sorted(led):
         if not _are_claims(claims.get(place)):
             raise NoClaims(place)
     for place in sorted(claims):
-        if not 1 <= place < len(rows) or not _are_claims(claims[place]):
+        if place not in led and not (1 <= place < len(rows) and _are_claims(claims[place])):
             raise NoClaims(place)
 
 
@@ -73,17 +87,18 @@ def _is_row(row, many):
         return False
     word = row[0]
     # A list can't be looked for among the words of a dict.
-    if not isinstance(word, str) or word not in PARTS or len(row) != 1 + len(PARTS[word]):
+    if not isinstance(word, str) or word not in PARTS:
         return False
-    return all([_is_part(letter, part, many) for letter, part in zip(PARTS[word], row[1:])])
-
-
-def _is_part(letter, part, many):
-    if letter == "n":
-        return is_number(part)
-    if letter == "t":
-        return is_between(part, 1, many - 1)
-    return is_between(part, 0, LAST_AREA if letter == "g" else LAST_REGISTER)
+    letters = PARTS[word]
+    if len(row) != 1 + len(letters):
+        return False
+    for letter, part in zip(letters, row[1:]):
+        if type(part) is not int:
+            return False
+        least, most = SPANS[letter]
+        if part < least or part > most:
+            return False
+    return word not in LEADS or row[-1] < many
 
 
 def _parts_of(row, letters):

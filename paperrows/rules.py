@@ -1,8 +1,8 @@
 """Rules: how runs begin, which areas of the memory they may use, and what holds at their end."""
 
 from paperrows.errors import NoRule
-from paperrows.forms import holds_at, less, worth
-from paperrows.kinds import are_forms, is_between, is_form_of, is_number, is_sequence
+from paperrows.forms import less
+from paperrows.kinds import are_forms, furthest, is_form_of, is_number, is_sequence
 
 MOST_FORMS = 6
 MOST_AREAS = 3
@@ -24,6 +24,9 @@ class Rule:
         self.given = tuple(given)
         self.areas = tuple(areas)
         self.ends = tuple(ends)
+        # Both are asked for at each start and each look, and never change.
+        self._facts = _facts_of(self.given, self.areas)
+        self._furthest = _furthest_of(self._facts, self.areas, self.ends)
 
     def __eq__(self, other):
         if not isinstance(other, Rule):
@@ -32,19 +35,21 @@ class Rule:
 
     def facts(self):
         """Tell the forms that hold at each start: what is given, and that the areas lie in their order."""
-        borders = [border for area in self.areas for border in area[:2]]
-        order = [less(behind, ahead) for ahead, behind in zip(borders, borders[1:])]
-        spans = [less(area[4], area[3]) for area in self.areas if area[3] is not None]
-        return list(self.given) + order + spans
+        return list(self._facts)
+
+    def furthest_number(self):
+        """Tell the greatest number of the rule's forms and facts, signs aside."""
+        return self._furthest
 
 
 def is_start(rule, p, memory):
     """Tell whether p0, p1, p2 and a memory are a start of a rule."""
-    if not isinstance(rule, Rule) or not _are_numbers(p) or not _is_memory(memory):
+    if not isinstance(rule, Rule) or not _are_numbers(p) or not isinstance(memory, dict):
         return False
-    if not all([holds_at(fact, p) for fact in rule.facts()]):
-        return False
-    return all([_area_begins(area, p, memory) for area in rule.areas])
+    for place, held in memory.items():
+        if not is_number(place) or not is_number(held):
+            return False
+    return facts_hold(rule, p) and all([area_begins(area, memory) for area in areas_at(rule, p)])
 
 
 def look_rule(rule):
@@ -53,9 +58,32 @@ def look_rule(rule):
         raise NoRule("no rule")
 
 
+def facts_hold(rule, p):
+    """Tell whether all facts hold where p0, p1, p2 have these worths."""
+    one, other, third = p
+    for constant, first, second, last in rule.facts():
+        if constant + first * one + second * other + last * third < 0:
+            return False
+    return True
+
+
 def areas_at(rule, p):
     """Tell of each area its first place, its end, rights, low and high, where p0, p1, p2 have these worths."""
     return [_area_at(area, p) for area in rule.areas]
+
+
+def area_begins(area, memory):
+    """Tell whether a memory may be a start's, where an area is as areas_at tells it."""
+    place, behind, _, low, high = area
+    # Asked ahead of any walk over the places: there may be as many as the forms' numbers tell.
+    if behind - place > MOST_PLACES:
+        return False
+    if low is None:
+        return True
+    for at in range(place, behind):
+        if not low <= memory.get(at, 0) <= high:
+            return False
+    return True
 
 
 def may_read(areas, number, place):
@@ -83,25 +111,29 @@ def _is_area(area):
 
 
 def _are_numbers(p):
-    return is_sequence(p) and len(p) == 3 and all([is_number(number) for number in p])
-
-
-def _is_memory(memory):
-    if not isinstance(memory, dict):
+    if not is_sequence(p) or len(p) != 3:
         return False
-    return all([is_number(place) and is_number(held) for place, held in memory.items()])
+    return is_number(p[0]) and is_number(p[1]) and is_number(p[2])
+
+
+def _facts_of(given, areas):
+    borders = [border for area in areas for border in area[:2]]
+    order = [less(behind, ahead) for ahead, behind in zip(borders, borders[1:])]
+    spans = [less(area[4], area[3]) for area in areas if area[3] is not None]
+    return (*given, *order, *spans)
+
+
+def _furthest_of(facts, areas, ends):
+    forms = [*facts, *ends, *[form for area in areas for form in area if isinstance(form, tuple)]]
+    return max([furthest(form) for form in forms], default=0)
 
 
 def _area_at(area, p):
     first, end, rights, low, high = area
     if low is None:
-        return worth(first, p), worth(end, p), rights, None, None
-    return worth(first, p), worth(end, p), rights, worth(low, p), worth(high, p)
+        return _at(first, p), _at(end, p), rights, None, None
+    return _at(first, p), _at(end, p), rights, _at(low, p), _at(high, p)
 
 
-def _area_begins(area, p, memory):
-    place, behind, _, low, high = _area_at(area, p)
-    # Asked ahead of any walk over the places: there may be as many as the forms' numbers tell.
-    if behind - place > MOST_PLACES:
-        return False
-    return low is None or all([is_between(memory.get(at, 0), low, high) for at in range(place, behind)])
+def _at(form, p):
+    return form[0] + form[1] * p[0] + form[2] * p[1] + form[3] * p[2]

@@ -1,9 +1,11 @@
 """Texts of bundles, and the bundles of texts."""
 
-from paperrows.bundles import Bundle
+from paperrows.bundles import Bundle, bundle_of, held_claims, held_papers
 from paperrows.errors import NoClaims, NoPapers, NoRows, NoText
-from paperrows.forms import form_text, read_form, read_number
+from paperrows.forms import LONGEST_NUMBER, read_number, text_of, understood
+from paperrows.kinds import furthest
 from paperrows.papers import MOST_WITHIN, size
+from paperrows.rows import look_claims
 
 CLAIM_NAMES = ("p0", "p1", "p2", "r0", "r1", "r2", "r3", "r4", "r5")
 # The least number from 0 on that has more than four hundred figures.
@@ -29,17 +31,26 @@ class Reader:
         self.at += 1
         return part
 
+    def taken_up_to(self, one, other):
+        """Tell the parts up to one of two, or up to the last one, and go on behind them."""
+        end = self.at
+        while end < len(self.parts) and self.parts[end] != one and self.parts[end] != other:
+            end += 1
+        told = self.parts[self.at:end]
+        self.at = end
+        return told
+
     def numbers_of(self, word, many):
         """Tell so many numbers of a line that begins with this word."""
         parts = self.taken().split(" ")
         if parts[0] != word or len(parts) != 1 + many:
             raise NoText(f"no line of {word}")
-        return [_read_signed(part) for part in parts[1:]]
+        return _read_numbers(parts[1:])
 
 
 def bundle_text(bundle):
     """Tell the text of a bundle."""
-    claims, papers = bundle.claims(), bundle.papers()
+    claims, papers = held_claims(bundle), held_papers(bundle)
     lines = [f"rows {len(bundle.rows)}"] + [_words(row) for row in bundle.rows]
     lines.append(f"claims {len(claims)}")
     for place in sorted(claims):
@@ -62,7 +73,8 @@ def read_bundle(text):
     claims = _read_claims(lines)
     papers = [_read_paper(lines.taken()) for _ in range(_count(lines, "papers"))]
     try:
-        bundle = Bundle(rows, claims, papers)
+        look_claims(rows, claims)
+        bundle = bundle_of(rows, claims, papers)
         told = bundle_text(bundle)
     except (NoRows, NoClaims, NoPapers):
         raise NoText("rows, claims or papers that are none") from None
@@ -73,12 +85,12 @@ def read_bundle(text):
 
 
 def _words(parts):
-    return " ".join([str(part) for part in parts])
+    return " ".join(map(str, parts))
 
 
 def _claim_text(form):
     _look_numbers(form)
-    return form_text(form, names=list(CLAIM_NAMES))
+    return text_of(form, CLAIM_NAMES)
 
 
 def _paper_text(paper):
@@ -102,7 +114,7 @@ def _numbers_text(words, numbers):
 
 
 def _look_numbers(numbers):
-    if not all([-TOO_GREAT < number < TOO_GREAT for number in numbers]):
+    if len(numbers) > 0 and furthest(numbers) >= TOO_GREAT:
         raise NoPapers("a number of more than four hundred figures has no text")
 
 
@@ -116,16 +128,21 @@ def _read_signed(word):
     return read_number(word)
 
 
+def _read_numbers(words):
+    # Short figures are read at once: there are very many of them.
+    return [int(word) if word.isdecimal() and len(word) < LONGEST_NUMBER else _read_signed(word) for word in words]
+
+
 def _read_row(line):
     word, *parts = line.split(" ")
-    return (word, *[_read_signed(part) for part in parts])
+    return (word, *_read_numbers(parts))
 
 
 def _read_claims(lines):
     claims = {}
     for _ in range(_count(lines, "claims")):
         place, many = lines.numbers_of("at", 2)
-        claims[place] = [read_form(lines.taken(), names=list(CLAIM_NAMES)) for _ in range(many)]
+        claims[place] = [understood(lines.taken(), CLAIM_NAMES) for _ in range(many)]
     return claims
 
 
@@ -141,9 +158,9 @@ def _read_parted(words, left):
     """Read a paper that is not in brackets, with at most so many splits and aparts within one another."""
     word = words.taken()
     if word == "sum":
-        return word, _read_signed(words.taken()), _read_numbers(words)
+        return word, _read_signed(words.taken()), _read_numbers(words.taken_up_to("|", ")"))
     if word == "never":
-        return word, _read_numbers(words)
+        return word, _read_numbers(words.taken_up_to("|", ")"))
     if word not in ("split", "apart") or left == 0:
         raise NoText("no paper")
     first = _read_bracketed_form(words) if word == "split" else _read_signed(words.taken())
@@ -163,16 +180,9 @@ def _read_inner(words, left):
 
 def _read_bracketed_form(words):
     _look_word(words, "(")
-    numbers = _read_numbers(words)
+    numbers = _read_numbers(words.taken_up_to(")", ")"))
     _look_word(words, ")")
     return tuple(numbers)
-
-
-def _read_numbers(words):
-    numbers = []
-    while words.ahead() not in (None, "|", ")"):
-        numbers.append(_read_signed(words.taken()))
-    return numbers
 
 
 def _look_word(words, word):

@@ -21,7 +21,7 @@ LIBRARY = {
 # L8, without `chr` (L27) and without those of bytes, which are not to be used for the present (L7).
 BUILTINS = """
     len range enumerate zip min max sum abs sorted reversed int str bool list tuple dict set isinstance ord repr any all
-    divmod pow getattr hasattr setattr iter next map super object property staticmethod classmethod Exception ValueError
+    divmod pow getattr hasattr setattr type iter next map super object property staticmethod classmethod Exception ValueError
     TypeError KeyError IndexError LookupError ZeroDivisionError ArithmeticError OverflowError RuntimeError
     NotImplementedError AttributeError StopIteration NotImplemented
 """.split()
