@@ -1,6 +1,6 @@
 """Deeds: a small language over four names, and how its deeds are run."""
 
-from paperrows.errors import NoDeeds
+from paperrows.errors import NoDeeds, NoRule
 from paperrows.kinds import are_forms
 from paperrows.rules import areas_at
 from paperrows.runs import begun_memory
@@ -151,6 +151,22 @@ def steps_of(deeds):
     told = Steps()
     told.add_all(deeds, MOST_WITHIN)
     return told
+
+
+def how_many(deed):
+    """Tell how many deeds there are in a deed, itself counted."""
+    if deed[0] == "while":
+        return 1 + sum([how_many(inner) for inner in deed[3]])
+    if deed[0] == "if":
+        return 1 + sum([how_many(inner) for inner in (*deed[3], *deed[4])])
+    return 1
+
+
+def look_ends(rule):
+    """Refuse a rule with ends of registers that hold no name."""
+    for end in rule.ends:
+        if end[-2] != 0 or end[-1] != 0:
+            raise NoRule("an end of a register without a name")
 
 
 def _is_deed(thing):

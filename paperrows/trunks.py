@@ -35,13 +35,15 @@ class Ground:
 class Group:
     """The wants of one row that have the same hints and unlikes: of a read, write or stop, or of a way.
 
-    `target` is the place to which a way leads, None where it is no way; `many` tells how many of the hints are the
-    trunk's own; `sorts` has at least one for each goal; `worths` are 1, p0 to p2 and the registers.
+    `target` is the place to which a way leads, None where it is no way; `leads` tells whether it is a way to t;
+    `many` tells how many of the hints are the trunk's own; `sorts` has at least one for each goal; `worths` are 1,
+    p0 to p2 and the registers.
     """
 
-    def __init__(self, at, target, hints, many, unlikes, goals, sorts, worths):
+    def __init__(self, at, target, leads, hints, many, unlikes, goals, sorts, worths):
         self.at = at
         self.target = target
+        self.leads = leads
         self.hints = hints
         self.many = many
         self.unlikes = unlikes
@@ -76,7 +78,7 @@ class Trunk:
             if row[0] in ("jump", "stop"):
                 return
             if self.end + 1 in claims:
-                self._add_way(self.end + 1, [])
+                self._add_way(self.end + 1, False, [])
                 return
             self.end += 1
 
@@ -92,9 +94,9 @@ class Trunk:
             place = self.worths[FIRST_V + row[1]] + row[2]
             self._add_place(place, row[4], self.worths[FIRST_V + row[3]])
         elif word == "jump":
-            self._add_way(row[1], [])
+            self._add_way(row[1], True, [])
         elif word == "stop":
-            self._add(None, [], [led_by(end, self.worths) for end in self.ground.ends], STOP_SORTS)
+            self._add(None, False, [], [led_by(end, self.worths) for end in self.ground.ends], STOP_SORTS)
         else:
             self._reckon(row)
 
@@ -116,10 +118,10 @@ class Trunk:
         difference = self.worths[FIRST_V + row[1]] - self.worths[FIRST_V + row[2]]
         # What a way to t gets isn't kept in the trunk.
         if row[0] == "below":
-            self._add_way(row[3], [-1 - difference])
+            self._add_way(row[3], True, [-1 - difference])
             self.hints = self.hints + [difference]
         else:
-            self._add_way(row[3], [difference, -difference])
+            self._add_way(row[3], True, [difference, -difference])
             self.unlikes = self.unlikes + [difference]
 
     def _do_read(self, row):
@@ -137,15 +139,15 @@ class Trunk:
         goals = [place - first, last - place]
         if put is not None and bounds is not None:
             goals = goals + [put - bounds[0], bounds[1] - put]
-        self._add(None, [], goals, PLACE_SORTS)
+        self._add(None, False, [], goals, PLACE_SORTS)
 
-    def _add_way(self, target, further):
+    def _add_way(self, target, leads, further):
         goals = [led_by(claim, self.worths) for claim in self.ground.claims[target]]
-        self._add(target, further, goals, WAY_SORTS)
+        self._add(target, leads, further, goals, WAY_SORTS)
 
-    def _add(self, target, further, goals, sorts):
-        hints, worths = self.hints + further, list(self.worths)
-        self.groups.append(Group(self.end, target, hints, len(self.hints), self.unlikes, goals, sorts, worths))
+    def _add(self, target, leads, further, goals, sorts):
+        hints, many, worths = self.hints + further, len(self.hints), list(self.worths)
+        self.groups.append(Group(self.end, target, leads, hints, many, self.unlikes, goals, sorts, worths))
 
 
 def trunks_of(rows, claims, rule):
