@@ -2,7 +2,8 @@
 
 from paperrows.bundles import bundle_of, held_claims, held_papers
 from paperrows.papers import MOST_WITHIN
-from paperrows.passing import all_of, as_it_is, depth_of, is_long, let_trunks, recast, shares_of, weights_of, without_rows
+from paperrows.passing import all_of, as_it_is, depth_of, is_long, let_trunks, recast, shares_of
+from paperrows.passing import weights_of, without_rows
 from paperrows.trunks import FIRST_U, trunks_of
 
 
