@@ -61,8 +61,10 @@ def _broken(steps, rule, course, p):
 
 
 def _all_hold(forms, p, worths):
+    one, other, third = p
+    a, b, c, d = worths
     for form in forms:
-        told = form[0] + sum([number * worth for number, worth in zip(form[1:], (*p, *worths))])
-        if told < 0:
+        told = form[0] + form[1] * one + form[2] * other + form[3] * third
+        if told + form[4] * a + form[5] * b + form[6] * c + form[7] * d < 0:
             return False
     return True

@@ -77,11 +77,15 @@ class Way:
 
 def led_on(bundle, rule):
     """Tell a bundle whose ways over jumps lead where these lead."""
-    trunks = let_trunks(bundle, rule)
+    return led_over(bundle, rule, let_trunks(bundle, rule))
+
+
+def led_over(bundle, rule, trunks):
+    """Tell a bundle, with these trunks, whose ways over jumps lead where these lead."""
     shares = shares_of(trunks, held_papers(bundle))
     # The papers of each told place's first row: of a jump or stop these are all of its trunk.
     firsts = {trunk.beginning: papers[0] for trunk, papers in zip(trunks, shares) if len(papers) > 0}
-    ways = _ways_of(trunks, shares, bundle.rows)
+    ways = _ways_of(trunks, shares)
     told = [_led_row(at, bundle, rule, ways.get(at), firsts) for at in range(len(bundle.rows))]
     for trunk, papers in zip(trunks, shares):
         for number, group in enumerate(trunk.groups):
@@ -90,7 +94,7 @@ def led_on(bundle, rule):
     return bundle_of(tuple(told), held_claims(bundle), all_of(shares))
 
 
-def _ways_of(trunks, shares, rows):
+def _ways_of(trunks, shares):
     """Tell by places the ways on which jumps, belows and sames of trunks lead."""
     told = {}
     for trunk, papers in zip(trunks, shares):

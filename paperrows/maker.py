@@ -13,7 +13,7 @@ REGISTERS = {"a": 0, "b": 1, "c": 2, "d": 3}
 TOTAL = 4
 OTHER = 5
 # A row that does nothing but stand between two told places: its register is set again ahead of each use.
-FILLER = ("set", OTHER, 0)
+FILLER = ("set", 5, 0)
 SORTS = ("first", "end", "low", "high", "keep", "behind", "ends")
 
 

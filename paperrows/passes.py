@@ -2,11 +2,12 @@
 
 from paperrows.bundles import bundle_of, held_claims, held_papers
 from paperrows.errors import NoPass
-from paperrows.leading import led_on
+from paperrows.leading import led_over
 from paperrows.passing import let_trunks
-from paperrows.sparing import spared
-from paperrows.sureness import surely
-from paperrows.thinning import thinned
+from paperrows.sparing import without_spare
+from paperrows.sureness import without_tests
+from paperrows.thinning import without_unled
+from paperrows.trunks import trunks_of
 
 WORDS = ("thinned", "spared", "led_on", "surely")
 
@@ -22,13 +23,15 @@ def passed(bundle, rule, *, words):
 
 
 def _done(word, bundle, rule):
-    if word == "thinned":
-        return thinned(bundle, rule)
+    """Tell a bundle that is let by with one pass done to it: what a pass tells is let by, and not looked at again."""
     if word == "spared":
-        return spared(bundle, rule)
+        return without_spare(bundle, rule)
+    trunks = trunks_of(bundle.rows, held_claims(bundle), rule)
+    if word == "thinned":
+        return without_unled(bundle, trunks)
     if word == "led_on":
-        return led_on(bundle, rule)
-    return surely(bundle, rule)
+        return led_over(bundle, rule, trunks)
+    return without_tests(bundle, rule, trunks)
 
 
 def _look_words(words):

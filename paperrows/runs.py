@@ -44,49 +44,63 @@ class Machine:
         self.at = 0
         self.steps = 0
 
-    def is_forbidden(self):
-        """Tell whether the row that comes next reads or writes what is forbidden."""
-        row = self.rows[self.at]
+    def go(self, budget):
+        """Do rows up to a stop, a forbidden row or the end of the budget, and tell which of these it was."""
+        registers, at, left = self.registers, self.at, budget - self.steps
+        told = "open"
+        while left > 0:
+            row = self.rows[at]
+            word = row[0]
+            if word == "read" or word == "write":
+                if not self._is_done(row):
+                    told = "forbidden"
+                    break
+            elif word == "below" or word == "same":
+                one, other = registers[row[1]], registers[row[2]]
+                is_so = one < other if word == "below" else one == other
+                if is_so:
+                    at = row[3] - 1
+            elif word == "jump":
+                at = row[1] - 1
+            elif word == "stop":
+                left -= 1
+                told = "stopped"
+                break
+            else:
+                registers[row[1]] = _reckoned(word, row, registers)
+            at += 1
+            left -= 1
+        self.at, self.steps = at, budget - left
+        return told
+
+    def _is_done(self, row):
+        """Do a read or write and tell True, or tell False where it is forbidden."""
         if row[0] == "read":
-            return not may_read(self.areas, row[4], self._place(row[2], row[3]))
-        if row[0] == "write":
-            return not may_write(self.areas, row[4], self._place(row[1], row[2]), self.registers[row[3]])
-        return False
-
-    def do_row(self):
-        """Do the row that comes next, which is no stop and not forbidden."""
-        row = self.rows[self.at]
-        if row[0] == "write":
-            self.held[self._place(row[1], row[2])] = self.registers[row[3]]
-        elif row[0] == "read":
-            self.registers[row[1]] = self.held.get(self._place(row[2], row[3]), 0)
-        elif row[0] not in ("jump", "below", "same"):
-            self.registers[row[1]] = _reckoned(row, self.registers)
-        self.at = _next_place(row, self.at, self.registers)
-        self.steps += 1
-
-    def _place(self, one, further):
-        return self.registers[one] + further
+            place = self.registers[row[2]] + row[3]
+            if not may_read(self.areas, row[4], place):
+                return False
+            self.registers[row[1]] = self.held.get(place, 0)
+            return True
+        place, put = self.registers[row[1]] + row[2], self.registers[row[3]]
+        if not may_write(self.areas, row[4], place, put):
+            return False
+        self.held[place] = put
+        return True
 
 
 def run(rows, rule, p, *, memory=(), budget=1000):
     """Do rows from a start on, and tell how that went."""
     machine = _begun(rows, rule, p, memory, budget)
-    word = _end_word(machine, budget)
-    while word is None:
-        machine.do_row()
-        word = _end_word(machine, budget)
-    # A stop is a row that is done, though nothing of the machine is changed by it.
-    steps = machine.steps + 1 if word == "stopped" else machine.steps
-    return Run(word, machine.at, machine.registers, machine.held, steps)
+    word = machine.go(budget)
+    return Run(word, machine.at, machine.registers, machine.held, machine.steps)
 
 
 def way(rows, rule, p, *, memory=(), budget=1000):
     """Tell by which rows a run goes, and what the registers hold ahead of each one."""
     machine = _begun(rows, rule, p, memory, budget)
     told = [(machine.at, tuple(machine.registers))]
-    while _end_word(machine, budget) is None:
-        machine.do_row()
+    # A row at a time: where the run goes on behind it, there is a further place to tell of.
+    while machine.steps < budget and machine.go(machine.steps + 1) == "open":
         told.append((machine.at, tuple(machine.registers)))
     return told
 
@@ -109,37 +123,16 @@ def _begun(rows, rule, p, memory, budget):
     return Machine(rows, areas_at(rule, p), p, held)
 
 
-def _end_word(machine, budget):
-    """Tell the word of a run that ends where the machine is now, None if it goes on."""
-    if machine.steps == budget:
-        return "open"
-    if machine.is_forbidden():
-        return "forbidden"
-    return "stopped" if machine.rows[machine.at][0] == "stop" else None
-
-
-def _reckoned(row, registers):
+def _reckoned(word, row, registers):
     """Tell what the register that a row sets becomes."""
-    word, first, last = row[0], row[2], row[-1]
-    if word == "set":
-        return first
-    if word == "copy":
-        return registers[first]
-    if word == "plus":
-        return registers[first] + registers[last]
-    if word == "minus":
-        return registers[first] - registers[last]
     if word == "more":
-        return registers[first] + last
-    return registers[first] * last
-
-
-def _next_place(row, at, registers):
-    word = row[0]
-    if word == "jump":
-        return row[1]
-    if word == "below" and registers[row[1]] < registers[row[2]]:
-        return row[3]
-    if word == "same" and registers[row[1]] == registers[row[2]]:
-        return row[3]
-    return at + 1
+        return registers[row[2]] + row[3]
+    if word == "set":
+        return row[2]
+    if word == "copy":
+        return registers[row[2]]
+    if word == "plus":
+        return registers[row[2]] + registers[row[3]]
+    if word == "minus":
+        return registers[row[2]] - registers[row[3]]
+    return registers[row[2]] * row[3]

@@ -9,6 +9,11 @@ from paperrows.thinning import FIRST_REGISTER, ways_on
 def spared(bundle, rule):
     """Tell a bundle without the rows whose register nobody reads behind them."""
     let_trunks(bundle, rule)
+    return without_spare(bundle, rule)
+
+
+def without_spare(bundle, rule):
+    """Tell a bundle that is let by without the rows whose register nobody reads behind them."""
     rows, claims = bundle.rows, held_claims(bundle)
     at = _spare_row(rows, claims, rule)
     while at is not None:
@@ -55,7 +60,8 @@ def _read_behind(rows, claims, rule):
 def _read_at(row, claims, rule):
     """Tell of which registers a row, the claims at its place and, if it is a stop, the ends read."""
     told = _bits(reads(row))
-    for form in [*claims, *(rule.ends if row[0] == "stop" else ())]:
+    ends = rule.ends if row[0] == "stop" else ()
+    for form in [*claims, *ends]:
         told |= _bits([number for number in range(6) if form[FIRST_REGISTER + number] != 0])
     return told
 

@@ -67,6 +67,7 @@ class Branch:
     """A below or same on a trunk, with the papers of all groups of the trunk."""
 
     def __init__(self, rows, trunk, papers, number):
+        self.rows = rows
         self.trunk = trunk
         self.papers = papers
         self.number = number
@@ -75,7 +76,7 @@ class Branch:
 
     def papers_without(self):
         """Tell the papers of the trunk's groups without the test where the way to t is never gone, else None."""
-        weights = _same_weights(self.papers[self.number], len(self.group.hints))
+        weights = _same_weights([self.papers[self.number]], len(self.group.hints))
         if weights is None:
             return None
         at, unlike = self.group.many, len(self.group.unlikes)
@@ -97,22 +98,21 @@ class Branch:
         weight = own[0] - own[1]
         return Never(ahead, weight, self._form(-1 - first if weight > 0 else first - 1))
 
-    def papers_led(self, length):
-        """Tell the papers of the trunk's groups where the test is a jump to t, if the way on is never gone, else None.
-
-        The forms are as long as those of the trunk that ends there.
-        """
+    def papers_led(self):
+        """Tell the papers of the trunk's groups where the test is a jump to t, if the way on is never gone, else None."""
         at = self.group.many
-        behind = [paper for papers in self.papers[self.number + 1:] for paper in papers]
-        weights = _same_weights(behind, at + 1 if self.is_below else at)
+        weights = _same_weights(self.papers[self.number + 1:], at + 1 if self.is_below else at)
         if weights is None:
             return None
         never = Never(weights[:at], weights[at] if self.is_below else 0, self._form(self.group.hints[at]))
         many = len(self.group.hints)
         told = self.papers[:self.number]
         told.append([never.without_hints(paper, many, many - at) for paper in self.papers[self.number]])
-        told = [[recast(paper, as_it_is, lambda form: form[:length]) for paper in papers] for papers in told]
-        return None if _are_too_deep(told) else told
+        if _are_too_deep(told):
+            return None
+        # The trunk ends here, so its forms lose the unknowns of the reads behind.
+        words = [row[0] for row in self.rows[self.trunk.beginning:self.group.at]]
+        return [_shortened(papers, FIRST_U + words.count("read")) for papers in told]
 
     def _form(self, number):
         return self.trunk.ground.fields.unpacked(number, self.trunk.length)
@@ -120,7 +120,11 @@ class Branch:
 
 def surely(bundle, rule):
     """Tell a bundle without the belows and sames one way of which is shown to be never gone."""
-    trunks = let_trunks(bundle, rule)
+    return without_tests(bundle, rule, let_trunks(bundle, rule))
+
+
+def without_tests(bundle, rule, trunks):
+    """Tell a bundle, with these trunks, without the belows and sames one way of which is shown to be never gone."""
     rows, claims, papers = bundle.rows, held_claims(bundle), list(held_papers(bundle))
     taken = _taken_away(rows, claims, trunks, papers)
     while taken is not None:
@@ -153,22 +157,25 @@ def _without_test(rows, claims, test):
         if told is not None:
             left_rows, left_claims = without_rows(rows, claims, {at: True})
             return left_rows, left_claims, told
-    reads_ahead = [row[0] for row in rows[test.trunk.beginning:at]].count("read")
-    told = test.papers_led(FIRST_U + reads_ahead)
+    told = test.papers_led()
     if told is None:
         return None
     return rows[:at] + (("jump", test.group.target),) + rows[at + 1:], claims, told
 
 
-def _same_weights(papers, many):
-    """Tell the weights of so many hints that all papers have, each a never of these alone; else None."""
-    if len(papers) == 0:
-        return None
+def _shortened(papers, length):
+    """Tell papers with forms of this length, without the unknowns behind it."""
+    return [recast(paper, as_it_is, lambda form: form[:length]) for paper in papers]
+
+
+def _same_weights(shares, many):
+    """Tell the weights of so many hints that all papers have, at least one, each a never of these alone; else None."""
     told = None
-    for paper in papers:
-        if paper[0] != "never" or any(paper[1][many:]) or (told is not None and paper[1][:many] != told):
-            return None
-        told = paper[1][:many]
+    for papers in shares:
+        for paper in papers:
+            if paper[0] != "never" or any(paper[1][many:]) or (told is not None and paper[1][:many] != told):
+                return None
+            told = paper[1][:many]
     return told
 
 

@@ -14,7 +14,11 @@ REGISTERS = "dabs"
 
 def thinned(bundle, rule):
     """Tell a bundle without the rows to which no way leads from the first row."""
-    trunks = let_trunks(bundle, rule)
+    return without_unled(bundle, let_trunks(bundle, rule))
+
+
+def without_unled(bundle, trunks):
+    """Tell a bundle, with these trunks, without the rows to which no way leads from the first row."""
     rows = bundle.rows
     led_to = _led_to(rows)
     gone = {at: True for at in range(len(rows)) if at not in led_to}

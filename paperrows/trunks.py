@@ -10,8 +10,8 @@ FIRST_U = 10
 
 # The sorts of wants: of reads and writes, of ways to told places, and of stops.
 PLACE_SORTS = ("first", "end", "low", "high")
-WAY_SORTS = ("claim",) * 8
-STOP_SORTS = ("ends",) * 6
+WAY_SORTS = ("claim", "claim", "claim", "claim", "claim", "claim", "claim", "claim")
+STOP_SORTS = ("ends", "ends", "ends", "ends", "ends", "ends")
 
 
 class Ground:
@@ -201,9 +201,7 @@ def _furthest_along(rows, claims, rule):
             held *= max(1, abs(row[3]))
         elif word == "set":
             held = max(held, abs(row[2]))
-        elif word == "more":
-            held += abs(row[3])
-        elif word == "read":
+        elif word in ("more", "read"):
             held += abs(row[3])
         elif word == "write":
             held += abs(row[2])
