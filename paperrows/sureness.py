@@ -99,7 +99,7 @@ class Branch:
         return Never(ahead, weight, self._form(-1 - first if weight > 0 else first - 1))
 
     def papers_led(self):
-        """Tell the papers of the trunk's groups where the test is a jump to t, if the way on is never gone, else None."""
+        """Tell the papers of the trunk's groups with a jump to t where the way on is never gone, else None."""
         at = self.group.many
         weights = _same_weights(self.papers[self.number + 1:], at + 1 if self.is_below else at)
         if weights is None:
