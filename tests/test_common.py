@@ -3,8 +3,10 @@
 import inspect
 import unittest
 
-from paperrows import bundles, deeds, finder, forms, kinds, looker, papers, rows, rules, runs, texts, wants
-from paperrows.errors import NoClaims, NoDeeds, NoForm, NoNumber, NoPapers, NoRows, NoRule, NoStart, NoText
+from paperrows import bundles, counters, deeds, desk, finder, forms, kinds, leading, looker, maker, papers, passes, rows, rules
+from paperrows import runs, sparing, sureness, texts, thinning, wants
+from paperrows.errors import NoClaims, NoDeeds, NoForm, NoNames, NoNumber, NoPapers, NoPass, NoRows, NoRule, NoSaying
+from paperrows.errors import NoStart, NoText
 
 STOP = ("stop",)
 FORM = (0,) * 10
@@ -40,6 +42,15 @@ INTERFACE = (
     (texts.read_bundle, "text |"),
     (deeds.look_deeds, "deeds |"),
     (deeds.deeds_run, "deeds rule p | memory budget"),
+    (maker.made, "deeds rule |"),
+    (counters.counter, "deeds rule | reach"),
+    (thinning.thinned, "bundle rule |"),
+    (thinning.renamed, "bundle rule names |"),
+    (sparing.spared, "bundle rule |"),
+    (leading.led_on, "bundle rule |"),
+    (sureness.surely, "bundle rule |"),
+    (passes.passed, "bundle rule | words"),
+    (desk.Desk, "|"),
 )
 
 # What is handed in where an argument is left out.
@@ -54,6 +65,7 @@ DEFAULTS = {
     (bundles.Bundle, "papers"): (),
     (deeds.deeds_run, "memory"): (),
     (deeds.deeds_run, "budget"): 300,
+    (counters.counter, "reach"): 2,
 }
 
 # The methods that the interface lists, each defined in its class itself.
@@ -61,6 +73,7 @@ METHODS = (
     (rules.Rule, "facts __eq__"),
     (runs.Run, "memory __eq__ __str__"),
     (bundles.Bundle, "claims papers size __len__ __eq__"),
+    (desk.Desk, "say"),
 )
 
 
@@ -126,7 +139,15 @@ class ArgumentsTest(unittest.TestCase):
         self.assertEqual(len(runs.way(budget=5, memory={}, p=(0, 0, 0), rule=rules.Rule(), rows=(STOP,))), 1)
         self.assertEqual(wants.wants(rule=rules.Rule(), claims={}, rows=(STOP,)), [])
         self.assertEqual(papers.size(paper=("never", [])), 1)
-        self.assertEqual(len(bundles.Bundle(papers=[], claims={}, rows=(STOP,))), 1)
+        bundle = bundles.Bundle(papers=[], claims={}, rows=(STOP,))
+        self.assertEqual(len(bundle), 1)
+        self.assertEqual(maker.made(rule=rules.Rule(), deeds=()), bundle)
+        self.assertIsNone(counters.counter(reach=1, rule=rules.Rule(), deeds=()))
+        for one_pass in (thinning.thinned, sparing.spared, leading.led_on, sureness.surely):
+            self.assertEqual(one_pass(rule=rules.Rule(), bundle=bundle), bundle)
+        self.assertEqual(thinning.renamed(names=[3, 4, 5], rule=rules.Rule(), bundle=bundle), bundle)
+        self.assertEqual(passes.passed(words=["spared"], rule=rules.Rule(), bundle=bundle), bundle)
+        self.assertEqual(desk.Desk().say(row="names"), "-")
 
     def test_names_are_not_handed_in_by_place(self):
         with self.assertRaises(TypeError):
@@ -217,6 +238,24 @@ class WhichRefusalTest(unittest.TestCase):
                 deeds.look_deeds((thing,))
             with self.assertRaises(NoStart):
                 deeds.deeds_run((), rules.Rule(), thing)
+            for call in (maker.made, counters.counter):
+                with self.assertRaises(NoDeeds):
+                    call((thing,), thing)
+                with self.assertRaises(NoRule):
+                    call((), thing)
+            with self.assertRaises(NoNumber):
+                counters.counter((), rules.Rule(), reach=thing)
+            bundle = bundles.Bundle((STOP,), {})
+            for one_pass in (thinning.thinned, sparing.spared, leading.led_on, sureness.surely):
+                with self.assertRaises(NoRule):
+                    one_pass(bundle, thing)
+            with self.assertRaises(NoNames):
+                thinning.renamed(bundle, rules.Rule(), thing)
+            for words in (thing, [thing]):
+                with self.assertRaises(NoPass):
+                    passes.passed(bundle, rules.Rule(), words=words)
+            with self.assertRaises(NoSaying):
+                desk.Desk().say(thing)
             self.assertFalse(rules.is_start(thing, thing, thing))
             self.assertFalse(rules.is_start(rules.Rule(), thing, {}))
 
