@@ -5,7 +5,6 @@ from paperrows.kinds import are_forms
 from paperrows.rules import areas_at
 from paperrows.runs import begun_memory
 
-NAMES = ("a", "b", "c", "d")
 PLACES = {"a": 0, "b": 1, "c": 2, "d": 3}
 MOST_DEEDS = 20
 MOST_WITHIN = 4
@@ -14,15 +13,6 @@ MOST_NUMBER = 1000000
 LAST_AREA = 2
 SUM_LENGTH = 5
 KEEP_LENGTH = 8
-
-# One letter for each part behind a deed's word: a name, an area, a sum, a test, keeps, or inner deeds.
-PARTS = {
-    "let": "xs",
-    "read": "xgs",
-    "write": "gsx",
-    "if": "tkddk",
-    "while": "tkd",
-}
 
 
 class Steps:
@@ -75,7 +65,7 @@ class Course:
         self.areas = areas
         self.worths = [*p, 0]
         self.held = held
-        self.left = budget
+        self.budget = budget
         self.at = 0
 
     def run(self, stations):
@@ -93,15 +83,15 @@ class Course:
                 self.at += 1
                 if stations:
                     return word, step[1]
-            elif self.left == 0:
+            elif self.budget == 0:
                 return "open", None
             elif word == "test":
-                self.left -= 1
+                self.budget -= 1
                 told = _sum_here(step[3], self.worths)
                 so = told < 0 if step[2] else told == 0
                 self.at = self.at + 1 if so else step[4]
             elif self._is_done(step):
-                self.left -= 1
+                self.budget -= 1
                 self.at += 1
             else:
                 return "forbidden", step[1]
@@ -173,28 +163,31 @@ def _is_deed(thing):
     """Tell whether a thing is a deed, whatever stands in the tuples of its inner deeds."""
     if not isinstance(thing, tuple) or len(thing) == 0:
         return False
-    word = thing[0]
-    # A list can't be looked for among the words of a dict.
-    if not isinstance(word, str) or word not in PARTS or len(thing) != 1 + len(PARTS[word]):
+    # Of anything, a word may stand there that is no text: it is compared, never looked for.
+    word, many = thing[0], len(thing)
+    if word == "let":
+        return many == 3 and _is_name(thing[1]) and _is_sum(thing[2])
+    if word == "read":
+        return many == 4 and _is_name(thing[1]) and _is_area(thing[2]) and _is_sum(thing[3])
+    if word == "write":
+        return many == 4 and _is_area(thing[1]) and _is_sum(thing[2]) and _is_name(thing[3])
+    if word == "while":
+        return many == 4 and _is_test(thing[1]) and _are_keeps(thing[2]) and isinstance(thing[3], tuple)
+    if word != "if" or many != 6 or not _is_test(thing[1]) or not _are_keeps(thing[2]):
         return False
-    for letter, part in zip(PARTS[word], thing[1:]):
-        if not _is_part(letter, part):
-            return False
-    return True
+    return isinstance(thing[3], tuple) and isinstance(thing[4], tuple) and _are_keeps(thing[5])
 
 
-def _is_part(letter, part):
-    if letter == "s":
-        return _is_sum(part)
-    if letter == "x":
-        return isinstance(part, str) and part in PLACES
-    if letter == "g":
-        return type(part) is int and 0 <= part <= LAST_AREA
-    if letter == "t":
-        return _is_test(part)
-    if letter == "k":
-        return isinstance(part, list) and are_forms(part, MOST_KEEPS, KEEP_LENGTH)
-    return isinstance(part, tuple)
+def _is_name(thing):
+    return isinstance(thing, str) and thing in PLACES
+
+
+def _is_area(thing):
+    return type(thing) is int and 0 <= thing <= LAST_AREA
+
+
+def _are_keeps(things):
+    return isinstance(things, list) and are_forms(things, MOST_KEEPS, KEEP_LENGTH)
 
 
 def _is_sum(thing):

@@ -14,28 +14,28 @@ class Way:
     def __init__(self, trunk, group, papers):
         self.fields = trunk.ground.fields
         self.length = trunk.length
-        self.facts = len(trunk.ground.facts)
+        self.known = len(trunk.ground.known)
         self.many = len(group.hints)
         self.worths = group.worths
-        self.claims = group.goals
-        self.papers = papers
+        self.goals = group.goals
+        self.shown = papers
 
     def lead_over(self, papers, forms):
         """Go on over a row that wants these claims or ends, by its papers; tell whether no paper gets too deep."""
         told = [self._led(paper) for paper in papers]
         if any([depth_of(paper) > MOST_WITHIN for paper in told]):
             return False
-        self.papers = told
-        self.claims = [led_by(form, self.worths) for form in forms]
+        self.shown = told
+        self.goals = [led_by(form, self.worths) for form in forms]
         return True
 
     def _led(self, paper):
         """Tell a paper of the way's hints that shows what a paper of the facts and the way's claims does."""
         used = self._used(paper)
         for number in used:
-            if self.papers[number][0] == "never":
-                return self.papers[number]
-        straight = [number for number in used if self.papers[number][:2] == ("sum", 1)]
+            if self.shown[number][0] == "never":
+                return self.shown[number]
+        straight = [number for number in used if self.shown[number][:2] == ("sum", 1)]
         told = self._put_together(paper, used, straight)
         if len(straight) > 0 and is_long(told):
             told = self._put_together(paper, used, [])
@@ -44,8 +44,8 @@ class Way:
     def _used(self, paper):
         """Tell the claims that some sum or never of a paper takes, rising."""
         if paper[0] in ("sum", "never"):
-            behind = self.facts + len(self.claims)
-            return [number for number, weight in enumerate(paper[-1][self.facts:behind]) if weight != 0]
+            behind = self.known + len(self.goals)
+            return [number for number, weight in enumerate(paper[-1][self.known:behind]) if weight != 0]
         return sorted(set(self._used(paper[2]) + self._used(paper[3])))
 
     def _put_together(self, paper, used, straight):
@@ -57,18 +57,18 @@ class Way:
         parted = [number for number in used if number not in straight]
 
         def weigh(weights):
-            claimed = weights[self.facts:]
-            told = weights[:self.facts] + [0] * (self.many - self.facts)
+            claimed = weights[self.known:]
+            told = weights[:self.known] + [0] * (self.many - self.known)
             for number in straight:
                 often = claimed[number]
-                told = [weight + often * further for weight, further in zip(told, self.papers[number][2])]
-            return told + [claimed[number] for number in parted] + claimed[len(self.claims):]
+                told = [weight + often * further for weight, further in zip(told, self.shown[number][2])]
+            return told + [claimed[number] for number in parted] + claimed[len(self.goals):]
 
         told = recast(paper, weigh, self._reform)
         for ahead in range(len(parted) - 1, -1, -1):
             number = parted[ahead]
-            form = self.fields.unpacked(self.claims[number], self.length)
-            told = ("split", form, told, _against(self.papers[number], self.many, ahead))
+            form = self.fields.unpacked(self.goals[number], self.length)
+            told = ("split", form, told, _against(self.shown[number], self.many, ahead))
         return told
 
     def _reform(self, form):
@@ -90,7 +90,7 @@ def led_over(bundle, rule, trunks):
     for trunk, papers in zip(trunks, shares):
         for number, group in enumerate(trunk.groups):
             if group.leads:
-                papers[number] = ways[group.at].papers
+                papers[number] = ways[group.at].shown
     return bundle_of(tuple(told), held_claims(bundle), all_of(shares))
 
 

@@ -27,11 +27,11 @@ class Writer:
 
     def __init__(self):
         self.rows = []
-        self.claims = {}
+        self.told = {}
         # The deed and the sort of what is wanted at a told place; the deed of each row that reads or writes.
         self.stations = {}
         self.deeds = {}
-        self.ahead = []
+        self.waiting = []
         # Places that are led to, by the numbers that stand for them in rows as long as they aren't known.
         self.places = []
 
@@ -39,8 +39,8 @@ class Writer:
         """Write all rows of deeds, a stop behind them, and the deeds of the tests that come up."""
         self._write_deeds(deeds, 0)
         self.rows.append(("stop",))
-        while len(self.ahead) > 0:
-            mark, claims, inner, number, back = self.ahead.pop(0)
+        while len(self.waiting) > 0:
+            mark, claims, inner, number, back = self.waiting.pop(0)
             self._tell_place(mark, claims, None)
             self._write_deeds(inner, number)
             self.rows.append(("jump", back))
@@ -60,11 +60,11 @@ class Writer:
 
     def _tell_place(self, mark, claims, station):
         # No place is told twice, and the first row's is the start's.
-        if len(self.rows) == 0 or len(self.rows) in self.claims:
+        if len(self.rows) == 0 or len(self.rows) in self.told:
             self.rows.append(FILLER)
         place = len(self.rows)
         self.places[mark] = place
-        self.claims[place] = claims
+        self.told[place] = claims
         if station is not None:
             self.stations[place] = station
 
@@ -95,10 +95,10 @@ class Writer:
         self.rows.append((sort, base, OTHER, inner))
         claims = known + _outcome(sort, form)
         if word == "while":
-            self.ahead.append((inner, claims, deeds, number + 1, test))
+            self.waiting.append((inner, claims, deeds, number + 1, test))
             return
         behind = self._mark()
-        self.ahead.append((inner, claims, deeds, number + 1, behind))
+        self.waiting.append((inner, claims, deeds, number + 1, behind))
         self._write_deeds(deed[4], number + 1 + sum([how_many(one) for one in deeds]))
         self._tell_place(behind, [(*form, 0, 0) for form in deed[5]], (number, "behind"))
 
@@ -138,11 +138,11 @@ def made(deeds, rule):
     writer = Writer()
     writer.write_all(deeds)
     rows = writer.led_rows()
-    papers, lacking = _papers_of(trunks_of(rows, writer.claims, rule), writer, steps.many)
+    papers, lacking = _papers_of(trunks_of(rows, writer.told, rule), writer, steps.many)
     if len(lacking) > 0:
         deed, rank = min(lacking)
         raise Unmade(deed, SORTS[rank])
-    return bundle_of(rows, writer.claims, papers)
+    return bundle_of(rows, writer.told, papers)
 
 
 def _look_deed_areas(steps, rule):

@@ -15,17 +15,17 @@ class Never:
     """
 
     def __init__(self, ahead, own, lost):
-        self.ahead = ahead
+        self.weights = ahead
         self.own = own
         self.lost = lost
 
     def paper(self, many, further):
         """Tell the never, of so many hints and of further ones that have these weights."""
-        return "never", self.ahead + [0] * (many - len(self.ahead)) + further
+        return "never", self.weights + [0] * (many - len(self.weights)) + further
 
     def without_hints(self, paper, many, count):
         """Tell a paper without so many of its many hints, those that stand behind the hints ahead of the test."""
-        at = len(self.ahead)
+        at = len(self.weights)
         if not any([any(weights[at:at + count]) for weights in weights_of(paper)]):
             return recast(paper, lambda weights: weights[:at] + weights[at + count:], as_it_is)
         if self.own == 0:
@@ -42,9 +42,9 @@ class Never:
 
     def _put_together(self, weights):
         """Tell weights with those of the never in the place of the lost hint's, which comes to theirs and more."""
-        at = len(self.ahead)
+        at = len(self.weights)
         often = weights[at]
-        return [weight + often * further for weight, further in zip(weights, self.ahead)] + weights[at + 1:]
+        return [weight + often * further for weight, further in zip(weights, self.weights)] + weights[at + 1:]
 
     def without_unlike(self, paper, many, number):
         """Tell a paper of so many hints without aparts of the unlike with this number."""
@@ -69,20 +69,20 @@ class Branch:
     def __init__(self, rows, trunk, papers, number):
         self.rows = rows
         self.trunk = trunk
-        self.papers = papers
+        self.shares = papers
         self.number = number
         self.group = trunk.groups[number]
         self.is_below = rows[self.group.at][0] == "below"
 
     def papers_without(self):
         """Tell the papers of the trunk's groups without the test where the way to t is never gone, else None."""
-        weights = _same_weights([self.papers[self.number]], len(self.group.hints))
+        weights = _same_weights([self.shares[self.number]], len(self.group.hints))
         if weights is None:
             return None
         at, unlike = self.group.many, len(self.group.unlikes)
         never = self._never_led(weights[:at], weights[at:])
-        told = self.papers[:self.number]
-        for group, papers in zip(self.trunk.groups[self.number + 1:], self.papers[self.number + 1:]):
+        told = self.shares[:self.number]
+        for group, papers in zip(self.trunk.groups[self.number + 1:], self.shares[self.number + 1:]):
             many = len(group.hints)
             if self.is_below:
                 told.append([never.without_hints(paper, many, 1) for paper in papers])
@@ -101,13 +101,13 @@ class Branch:
     def papers_led(self):
         """Tell the papers of the trunk's groups with a jump to t where the way on is never gone, else None."""
         at = self.group.many
-        weights = _same_weights(self.papers[self.number + 1:], at + 1 if self.is_below else at)
+        weights = _same_weights(self.shares[self.number + 1:], at + 1 if self.is_below else at)
         if weights is None:
             return None
         never = Never(weights[:at], weights[at] if self.is_below else 0, self._form(self.group.hints[at]))
         many = len(self.group.hints)
-        told = self.papers[:self.number]
-        told.append([never.without_hints(paper, many, many - at) for paper in self.papers[self.number]])
+        told = self.shares[:self.number]
+        told.append([never.without_hints(paper, many, many - at) for paper in self.shares[self.number]])
         if _are_too_deep(told):
             return None
         # The trunk ends here, so its forms lose the unknowns of the reads behind.

@@ -19,17 +19,17 @@ class Ground:
 
     def __init__(self, rows, claims, rule):
         self.rows = rows
-        self.claims = claims
+        self.told = claims
         self.ends = rule.ends
         self.beginnings = [0, *sorted(claims)]
         self.lengths = [FIRST_U + _reads_from(rows, claims, beginning) for beginning in self.beginnings]
         self.fields = Fields(bits_of(_furthest_along(rows, claims, rule)), max(self.lengths))
-        packed = self.fields.packed
-        self.facts = [packed(fact) for fact in rule.facts()]
+        fields = self.fields
+        self.known = [fields.packed(fact) for fact in rule.facts()]
         self.areas = []
         for first, end, _, low, high in rule.areas:
-            bounds = None if low is None else (packed(low), packed(high))
-            self.areas.append((packed(first), packed(end) - 1, bounds))
+            bounds = None if low is None else (fields.packed(low), fields.packed(high))
+            self.areas.append((fields.packed(first), fields.packed(end) - 1, bounds))
 
 
 class Group:
@@ -62,16 +62,16 @@ class Trunk:
         self.groups = []
         units = ground.fields.units
         self.worths = units[:FIRST_U] if beginning > 0 else [1, *units[1:4], *units[1:4], 0, 0, 0]
-        self.hints = ground.facts
+        self.hints = ground.known
         if beginning > 0:
-            self.hints = self.hints + [led_by(claim, self.worths) for claim in ground.claims[beginning]]
+            self.hints = self.hints + [led_by(claim, self.worths) for claim in ground.told[beginning]]
         self.unlikes = []
         self.reads = 0
         self.end = beginning
 
     def walk(self):
         """Go on from the beginning up to the trunk's last row."""
-        rows, claims = self.ground.rows, self.ground.claims
+        rows, claims = self.ground.rows, self.ground.told
         while True:
             row = rows[self.end]
             self._do_row(row)
@@ -142,7 +142,7 @@ class Trunk:
         self._add(None, False, [], goals, PLACE_SORTS)
 
     def _add_way(self, target, leads, further):
-        goals = [led_by(claim, self.worths) for claim in self.ground.claims[target]]
+        goals = [led_by(claim, self.worths) for claim in self.ground.told[target]]
         self._add(target, leads, further, goals, WAY_SORTS)
 
     def _add(self, target, leads, further, goals, sorts):
