@@ -3,7 +3,7 @@
 from paperrows.deeds import Course, look_ends, steps_of
 from paperrows.errors import NoNumber
 from paperrows.kinds import is_between, is_number
-from paperrows.rules import MOST_PLACES, areas_at, facts_hold, look_rule
+from paperrows.rules import MOST_PLACES, areas_at, look_rule
 
 MOST_REACH = 4
 BUDGET = 300
@@ -16,18 +16,36 @@ def counter(deeds, rule, *, reach=2):
     look_ends(rule)
     if not is_between(reach, 0, MOST_REACH):
         raise NoNumber("no reach from 0 to 4")
-    span = list(range(-reach, reach + 1))
-    for p in [(one, other, third) for one in span for other in span for third in span]:
-        if not facts_hold(rule, p):
-            continue
-        areas = areas_at(rule, p)
-        memory = _tried_memory(areas)
-        if memory is None:
-            continue
-        word, deed = _broken(steps, rule, Course(steps.steps, areas, p, dict(memory), BUDGET), p)
-        if word is not None:
-            return p, memory, word, deed
+    span, facts = list(range(-reach, reach + 1)), rule.facts()
+    for one in span:
+        for other in span:
+            for third in _thirds(facts, one, other, span):
+                told = _tried(steps, rule, (one, other, third))
+                if told is not None:
+                    return told
     return None
+
+
+def _thirds(facts, one, other, span):
+    """Tell the worths of p2 by which all facts hold, where p0 and p1 have these."""
+    told = span
+    for constant, first, second, last in facts:
+        ahead = constant + first * one + second * other
+        if last != 0:
+            told = [third for third in told if ahead + last * third >= 0]
+        elif ahead < 0:
+            return []
+    return told
+
+
+def _tried(steps, rule, p):
+    """Tell the start with its memory, and what a run breaks first; None where it is no start, or breaks nothing."""
+    areas = areas_at(rule, p)
+    memory = _tried_memory(areas)
+    if memory is None:
+        return None
+    word, deed = _broken(steps, rule, Course(steps.steps, areas, p, dict(memory), BUDGET), p)
+    return None if word is None else (p, memory, word, deed)
 
 
 def _tried_memory(areas):

@@ -49,7 +49,10 @@ def is_start(rule, p, memory):
     for place, held in memory.items():
         if not is_number(place) or not is_number(held):
             return False
-    return facts_hold(rule, p) and all([area_begins(area, memory) for area in areas_at(rule, p)])
+    for fact in rule.facts():
+        if _at(fact, p) < 0:
+            return False
+    return all([_area_begins(area, memory) for area in areas_at(rule, p)])
 
 
 def look_rule(rule):
@@ -58,32 +61,9 @@ def look_rule(rule):
         raise NoRule("no rule")
 
 
-def facts_hold(rule, p):
-    """Tell whether all facts hold where p0, p1, p2 have these worths."""
-    one, other, third = p
-    for constant, first, second, last in rule.facts():
-        if constant + first * one + second * other + last * third < 0:
-            return False
-    return True
-
-
 def areas_at(rule, p):
     """Tell of each area its first place, its end, rights, low and high, where p0, p1, p2 have these worths."""
     return [_area_at(area, p) for area in rule.areas]
-
-
-def area_begins(area, memory):
-    """Tell whether a memory may be a start's, where an area is as areas_at tells it."""
-    place, behind, _, low, high = area
-    # Asked ahead of any walk over the places: there may be as many as the forms' numbers tell.
-    if behind - place > MOST_PLACES:
-        return False
-    if low is None:
-        return True
-    for at in range(place, behind):
-        if not low <= memory.get(at, 0) <= high:
-            return False
-    return True
 
 
 def may_read(areas, number, place):
@@ -133,6 +113,19 @@ def _area_at(area, p):
     if low is None:
         return _at(first, p), _at(end, p), rights, None, None
     return _at(first, p), _at(end, p), rights, _at(low, p), _at(high, p)
+
+
+def _area_begins(area, memory):
+    place, behind, _, low, high = area
+    # Asked ahead of any walk over the places: there may be as many as the forms' numbers tell.
+    if behind - place > MOST_PLACES:
+        return False
+    if low is None:
+        return True
+    for at in range(place, behind):
+        if not low <= memory.get(at, 0) <= high:
+            return False
+    return True
 
 
 def _at(form, p):

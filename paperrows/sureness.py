@@ -26,19 +26,22 @@ class Never:
     def without_hints(self, paper, many, count):
         """Tell a paper without so many of its many hints, those that stand behind the hints ahead of the test."""
         at = len(self.weights)
+
+        def without(weights):
+            return weights[:at] + weights[at + count:]
+
+        def put_behind(weights):
+            return weights[:at] + weights[at + 1:many] + [weights[at]] + weights[many:]
+
         if not any([any(weights[at:at + count]) for weights in weights_of(paper)]):
-            return recast(paper, lambda weights: weights[:at] + weights[at + count:], as_it_is)
+            return recast(paper, without, as_it_is)
         if self.own == 0:
             return self.paper(many - count, [])
         if self.own == 1:
             told = recast(paper, self._put_together, as_it_is)
             if not is_long(told):
                 return told
-
-        def weigh(weights):
-            return weights[:at] + weights[at + 1:many] + [weights[at]] + weights[many:]
-
-        return "split", self.lost, recast(paper, weigh, as_it_is), self.paper(many - 1, [self.own])
+        return "split", self.lost, recast(paper, put_behind, as_it_is), self.paper(many - 1, [self.own])
 
     def _put_together(self, weights):
         """Tell weights with those of the never in the place of the lost hint's, which comes to theirs and more."""
@@ -165,7 +168,10 @@ def _without_test(rows, claims, test):
 
 def _shortened(papers, length):
     """Tell papers with forms of this length, without the unknowns behind it."""
-    return [recast(paper, as_it_is, lambda form: form[:length]) for paper in papers]
+    def cut(form):
+        return form[:length]
+
+    return [recast(paper, as_it_is, cut) for paper in papers]
 
 
 def _same_weights(shares, many):
