@@ -128,6 +128,11 @@ class RowsTest(DeskTest):
         self.refused("run b r 10 0 0 100", NoStart)
         self.says("bundle c rows 2;read 4 3 -1 0;stop;claims 0;papers 0", "ok")
         self.says("run c r 1 0 0 5", "forbidden 0 0")
+        self.says("rule w p0 - 4 , -p0 + 4 , p1 - 5 , -p1 + 5 , p2 + 6 , -p2 - 6 / - / -", "ok")
+        self.says("bundle d rows 1;stop;claims 0;papers 0", "ok")
+        self.says("run d w 4 5 -6 1", "stopped 0 1")
+        for p in ("5 5 -6", "4 4 -6", "4 5 6", "5 4 -6", "-6 5 4", "4 -6 5"):
+            self.refused(f"run d w {p} 1", NoStart)
         # The memory is empty, where an area may hold no noughts.
         self.says("rule q - / 0 to p0 both 1 to 2 / -", "ok")
         self.says("run b q 0 0 0 7", "stopped 1 2")

@@ -118,6 +118,21 @@ class GreatPapersTest(unittest.TestCase):
         worse = Bundle(rows, {}, [("sum", 1, [10 ** 240 * 2 ** 30 + 1, 0]), bundle.papers()[1]])
         self.assertEqual(lacking(worse, self.RULE), (70, "ends", 0))
 
+    def test_numbers_of_rows_with_weights_that_just_fit(self):
+        # What each row lets a goal come to, taken so often as the fields just let it be.
+        million, often = 10 ** 6, 2 ** 39
+        rule = Rule([], [((0, 0, 0, 0), (10 ** 7, 0, 0, 0), "both", (0, 0, 0, 0), (10 ** 7, 0, 0, 0))], [claim(0, r3=1)])
+        for rows in (
+            (("set", 3, million), STOP), (("set", 3, 7), ("more", 3, 3, million), STOP),
+            (("set", 3, 9), ("fold", 3, 3, million), STOP), (("set", 3, 5),) + (("plus", 3, 3, 3),) * 200 + (STOP,),
+            (("set", 3, 5),) + (("minus", 3, 3, 4),) * 20 + (("fold", 3, 3, million),) * 9 + (STOP,),
+            (("set", 3, 9), ("read", 4, 5, million, 0), ("write", 5, million, 3, 0), STOP),
+        ):
+            papers = [("sum", often, [0] * len(want[2])) for want in reference.wants_of(rows, {}, rule)]
+            self.assertIsNone(reference.lacking_of(Bundle(rows, {}, papers), rule))
+            self.assertIsNone(lacking(Bundle(rows, {}, papers), rule))
+            self.assertEqual(wants(rows, {}, rule), reference.wants_of(rows, {}, rule))
+
     def test_many_reads_in_a_trunk(self):
         rule = Rule([(0, 1, 0, 0)], [((0, 0, 0, 0), (5, 1, 0, 0), "both", (0, 0, 0, 0), (9, 0, 0, 0))])
         rows = (("read", 3, 4, 0, 0), ("write", 4, 1, 3, 0)) * 140 + (STOP,)

@@ -105,6 +105,13 @@ class SparedTest(PassTest):
         # A loop in which a row reads what it set itself, the last time round.
         self.stays((("set", 3, 0), ("more", 3, 3, 1), ("below", 0, 1, 1), STOP), {1: []})
 
+    def test_read_only_behind_a_way_back(self):
+        # What the row 3 sets is read by the row 2, to which the way leads over the rows 4 and 1.
+        self.stays((("set", 3, 0), ("set", 4, 1), ("below", 3, 4, 5), ("more", 3, 0, 1), ("jump", 1), STOP), {1: [], 5: []})
+        # And here over two of them, each behind the other one.
+        self.stays((("jump", 7), ("below", 3, 0, 6), STOP, ("set", 3, 1), ("jump", 5), ("jump", 1), STOP, ("jump", 3)),
+                   {at: [] for at in (1, 3, 5, 6, 7)})
+
     def test_a_beginning_ahead_of_a_told_place_stays(self):
         self.stays((("set", 3, 1), STOP), {1: []})
         told = self.spared((("below", 0, 1, 2), STOP, ("set", 3, 1), STOP), {2: [], 3: claims("1")})

@@ -331,7 +331,7 @@ class SurelyTest(PassTest):
             bundle = Bundle(rows, told_claims, [("never", weights), ("sum", 1, [0, 0, great])])
             told = self.surely(bundle, rule)
             self.assertEqual(len(told), 6)
-            self.assertLess(reference.greatest_of(told.papers()), 10 ** 400)
+            self.assertLess(reference.greatest_of(told.papers()), 10 ** 51)
             self.assertLessEqual(size(told.papers()[0]), 2)
 
     def test_a_hint_of_the_way_to_t_that_is_lost(self):
@@ -344,6 +344,26 @@ class SurelyTest(PassTest):
             bundle = Bundle(rows, told_claims, [("sum", 1, [0, 1]), ("sum", 1, [0, 1]), never, never])
             told = self.surely(bundle, rule, (rows[0], ("jump", 4), *rows[2:]))
             self.assertEqual([size(paper) for paper in told.papers()], [1, 1] if own == 1 else [2, 2])
+
+    def test_too_deep_on_the_way_to_t(self):
+        rows = (("jump", 5), ("below", 0, 1, 4), ("set", 3, 1), ("jump", 4), ("jump", 5), ("jump", 5))
+        for own in (1, 3):
+            told_claims = {1: [(-own, 0, 0, 0, -own, own, 0, 0, 0, 0)], 4: claims("r1 - r0 - 1"), 5: []}
+            for depth in (9, 10):
+                bundle = Bundle(rows, told_claims, [within(depth, ("sum", 1, [0, 1])), ("never", [1, own])])
+                self.assertIsNone(reference.lacking_of(bundle, Rule()))
+                self.assertEqual(takes(bundle, Rule()), [(1, "on")])
+                told = surely(bundle, Rule())
+                self.assertEqual(told == bundle, own == 3 and depth == 10)
+                self.assertIsNone(reference.lacking_of(told, Rule()))
+
+    def test_ahead_of_a_told_place(self):
+        # The row 1 is no beginning, so it goes, though the next row is a told place.
+        rule = Rule(given("-1"))
+        rows = (("set", 3, 1), ("below", 0, 1, 2), ("set", 3, 2), STOP)
+        split = ("split", (1,) + (0,) * 9, ("never", [1, 0, 0]), ("never", [1, 0, 0]))
+        told = self.surely(Bundle(rows, {2: claims("r0")}, [("never", [1, 0]), split]), rule, (rows[0], rows[2], STOP))
+        self.assertEqual(told.claims(), {1: claims("r0")})
 
     def test_forms_lose_the_unknowns_of_reads_behind(self):
         rule = Rule(given("-1", "p0"), [area("0", "p0", "read")], claims("p0"))
