@@ -58,11 +58,11 @@ class Way:
 
         def weigh(weights):
             claimed = weights[self.known:]
-            told = weights[:self.known] + [0] * (self.many - self.known)
-            for number in straight:
-                often = claimed[number]
-                told = [weight + often * further for weight, further in zip(told, self.shown[number][2])]
-            return told + [claimed[number] for number in parted] + claimed[len(self.goals):]
+            new = weights[:self.known] + [0] * (self.many - self.known)
+            for claim in straight:
+                often = claimed[claim]
+                new = [weight + often * further for weight, further in zip(new, self.shown[claim][2])]
+            return new + [claimed[split] for split in parted] + claimed[len(self.goals):]
 
         told = recast(paper, weigh, self._reform)
         for ahead in range(len(parted) - 1, -1, -1):
