@@ -6,6 +6,29 @@ from math import gcd
 PATIENCE = 20
 
 
+class Hints:
+    """Forms that are asked for what they come to all at once: by their constants, and by each unknown's numbers."""
+
+    def __init__(self, forms, many):
+        self.forms = forms
+        self.constants = [form[0] for form in forms]
+        self.numbers = list(zip(*forms))[1:] if len(forms) > 0 else [()] * many
+        self.least = min(self.constants, default=0)
+
+    def with_one(self, form):
+        """Tell these forms with one more behind them."""
+        return Hints([*self.forms, form], len(form) - 1)
+
+    def worths_at(self, corner):
+        """Tell what each form comes to at a corner, so often as the divisor is."""
+        told = [constant * corner.divisor for constant in self.constants]
+        for numbers, row in zip(self.numbers, corner.rows):
+            worth = row[-1]
+            if worth != 0:
+                told = [taken + number * worth for taken, number in zip(told, numbers)]
+        return told
+
+
 class Corner:
     """A place of the unknowns, told by forms that come to just 0 there.
 
@@ -21,86 +44,129 @@ class Corner:
         self.columns = [None] * many
         self.costs = [0] * (many + 1)
 
-    def twin(self):
-        """Tell a corner at the same place that is moved by itself."""
-        other = Corner(0)
-        other.divisor = self.divisor
-        other.rows = [list(row) for row in self.rows]
-        other.columns = list(self.columns)
-        other.costs = list(self.costs)
-        return other
-
-    def worth_here(self, parts):
+    def worth_here(self, form):
         """Tell what a form comes to at the corner, so often as the divisor is."""
-        constant, terms = parts
-        return constant * self.divisor + sum([number * self.rows[at][-1] for at, number in terms])
+        return form[0] * self.divisor + sum([number * row[-1] for number, row in zip(form[1:], self.rows)])
 
-    def row_of(self, parts):
+    def row_of(self, form):
         """Tell a form as a row over the columns."""
-        constant, terms = parts
-        told = [0] * len(self.columns) + [constant * self.divisor]
-        for at, number in terms:
-            told = [taken + number * further for taken, further in zip(told, self.rows[at])]
+        told = [0] * len(self.columns) + [form[0] * self.divisor]
+        for number, row in zip(form[1:], self.rows):
+            if number != 0:
+                told = [taken + number * further for taken, further in zip(told, row)]
         return told
 
-    def move(self, row, column, number):
-        """Move to where a form, with this row and number, comes to 0, in the place of what the column stands for."""
-        was_free = self.columns[column] is None
-        self.rows = [self._moved(other, row, column) for other in self.rows]
-        self.costs = self._moved(self.costs, row, column)
-        self.divisor = abs(row[column])
-        self.columns[column] = number
-        if was_free:
+    def moved(self, row, column, number):
+        """Tell the corner where a form, with this row and number, comes to 0, in the place of a column's form."""
+        told = Corner(0)
+        told.divisor = abs(row[column])
+        # Where the divisor stays, just what hangs on the column is changed.
+        is_same = told.divisor == self.divisor
+        for other in self.rows:
+            told.rows.append(other if is_same and other[column] == 0 else self._moved(other, row, column))
+        told.costs = self._moved(self.costs, row, column)
+        told.columns = list(self.columns)
+        told.columns[column] = number
+        if self.columns[column] is None:
             # The form is one of those whose sum the costs tell, from now on.
-            self.costs[column] = self.divisor
+            told.costs[column] = told.divisor
+        return told
 
     def _moved(self, other, row, column):
-        pivot, taken = abs(row[column]), other[column]
-        if taken == 0 and pivot == self.divisor:
-            return other
+        pivot, taken, divisor = abs(row[column]), other[column], self.divisor
         if row[column] < 0:
             taken = -taken
         # All numbers are determinants of the forms' numbers, as is the divisor, so there is never a rest.
-        told = [(number * pivot - taken * further) // self.divisor for number, further in zip(other, row)]
+        told = [(number * pivot - taken * further) // divisor for number, further in zip(other, row)]
         told[column] = taken
         return told
 
 
-def parts_of(form):
-    """Tell a form as its constant and its terms, the unknown's place with its number."""
-    return form[0], [(at, number) for at, number in enumerate(form[1:]) if number != 0]
+class Chase:
+    """A goal's contrary and hints, and a corner that is moved to where all of them hold, till they never do."""
 
+    def __init__(self, contrary, hints, corner):
+        self.contrary = contrary
+        self.hints = hints
+        self.corner = corner
 
-def contradiction(corner, forms):
-    """Move a corner to where all forms hold, and tell None; or tell weights, from 0 on, where they never all do.
+    def weights_on(self):
+        """Move the corner to where all forms hold, and tell None; or tell weights by which they never do.
 
-    Each form, by its parts, so often as its weight is, they come to 0 for each unknown, and a constant below 0.
-    """
-    still = 0
-    while True:
-        at = _broken(corner, forms, still > PATIENCE)
-        if at is None:
+        The weights are from 0 on, the contrary's first: so often taken, the forms come to 0 for each unknown, and a
+        constant below 0.
+        """
+        return self._weights_from(_broken(self.corner, self.contrary, self.hints, False), 0)
+
+    def weights_anew(self):
+        """Do the same with a new corner, where mostly one move, and that by the contrary, is enough."""
+        contrary, hints = self.contrary, self.hints
+        constant = contrary[0]
+        if constant >= 0 or constant > hints.least:
+            return self.weights_on()
+        numbers = [(abs(number), at) for at, number in enumerate(contrary[1:]) if number != 0]
+        if len(numbers) == 0:
+            return [1] + [0] * len(hints.forms)
+        # The contrary comes to 0 by one unknown, and then one of the hints is the furthest below.
+        pivot, column = min(numbers)
+        number = contrary[column + 1]
+        worth = -constant if number > 0 else constant
+        worths = [taken * pivot + further * worth for taken, further in zip(hints.constants, hints.numbers[column])]
+        least = min(worths, default=0)
+        at = None if least >= 0 else 1 + worths.index(least)
+        if at is not None:
+            told = self._weights_of_two(at, column)
+            if told is not None:
+                return told
+        self.corner = self.corner.moved([*contrary[1:], constant], column, 0)
+        return self._weights_from(at, 0)
+
+    def _weights_of_two(self, at, column):
+        """Tell the weights of the contrary and a hint that goes against it, all unknowns alike; else None."""
+        hint, contrary = self.hints.forms[at - 1], self.contrary
+        number, further = contrary[column + 1], hint[column + 1]
+        often = -further if number > 0 else further
+        if often < 0:
             return None
-        row = corner.row_of(forms[at])
-        column = _free_column(corner, row)
-        if column is None:
-            column = _bound_column(corner, row)
+        for one, other in zip(hint[1:], contrary[1:]):
+            if one * number != other * further:
+                return None
+        told, pivot = [0] * (len(self.hints.forms) + 1), abs(number)
+        shared = gcd(often, pivot)
+        told[0], told[at] = often // shared, pivot // shared
+        return told
+
+    def _weights_from(self, at, still):
+        """Go on by the form with this number, the contrary's 0, where so many moves gained nothing."""
+        contrary, hints = self.contrary, self.hints
+        while at is not None:
+            corner = self.corner
+            row = corner.row_of(contrary if at == 0 else hints.forms[at - 1])
+            column = _free_column(corner, row)
             if column is None:
-                return _weights(corner, row, at, len(forms))
-            still = still + 1 if corner.costs[column] == 0 else 0
-        corner.move(row, column, at)
+                column = _bound_column(corner, row)
+                if column is None:
+                    return _weights(corner, row, at, len(hints.forms) + 1)
+                still = still + 1 if corner.costs[column] == 0 else 0
+            self.corner = corner.moved(row, column, at)
+            at = _broken(self.corner, contrary, hints, still > PATIENCE)
+        return None
 
 
-def _broken(corner, forms, first):
-    """Tell the number of a form that doesn't hold at a corner, the first or the one furthest below 0."""
-    found, least = None, 0
-    for at, parts in enumerate(forms):
-        here = corner.worth_here(parts)
-        if here < least:
-            if first:
-                return at
-            found, least = at, here
-    return found
+def _broken(corner, contrary, hints, first):
+    """Tell the number of a form that doesn't hold at a corner, the first or the one furthest below 0; else None."""
+    here, worths = corner.worth_here(contrary), hints.worths_at(corner)
+    least = min(worths, default=0)
+    if here < 0 and (first or here <= least):
+        return 0
+    if least >= 0:
+        return None
+    if not first:
+        return 1 + worths.index(least)
+    for at, worth in enumerate(worths):
+        if worth < 0:
+            return 1 + at
+    return None
 
 
 def _free_column(corner, row):

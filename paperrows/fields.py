@@ -38,9 +38,18 @@ class Fields:
         lifted, mask, half = number + self.lift, self.mask, self.half
         return tuple([((lifted >> shift) & mask) - half for shift in self.shifts[:length]])
 
-    def constant(self, number):
-        """Tell the constant of the form that has a number."""
-        return ((number + self.half) & self.mask) - self.half
+    def places_used(self, numbers):
+        """Tell the places, that of the constant first, at which some form, of these with their numbers, has no 0."""
+        lift, mask, used = self.lift, self.mask, 0
+        for number in numbers:
+            # A field that is 0 holds just the half, once lifted.
+            used |= (number + lift) ^ lift
+        return [0] + [at for at, shift in enumerate(self.shifts) if at > 0 and (used >> shift) & mask != 0]
+
+    def numbers_at(self, number, places):
+        """Tell the numbers at some places of the form that has a number."""
+        lifted, mask, half, bits = number + self.lift, self.mask, self.half, self.bits
+        return tuple([((lifted >> bits * place) & mask) - half for place in places])
 
     def left(self, k, goal, weights, hints):
         """Tell to what a goal comes, k times, less all hints, so often; None where that is no constant alone."""

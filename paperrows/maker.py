@@ -3,7 +3,7 @@
 from paperrows.bundles import bundle_of
 from paperrows.deeds import how_many, look_ends, steps_of
 from paperrows.errors import NoArea, Unmade
-from paperrows.finder import Search
+from paperrows.finder import TrunkSearch
 from paperrows.forms import contrary, often
 from paperrows.rules import look_rule
 from paperrows.trunks import trunks_of
@@ -157,9 +157,9 @@ def _papers_of(trunks, writer, many):
     """Tell the papers of all wants, and of those without one the deeds with the numbers of their sorts."""
     papers, lacking = [], []
     for trunk in trunks:
-        search = Search(trunk.ground.fields, trunk.length)
+        search = TrunkSearch(trunk)
         for group in trunk.groups:
-            told = search.found(group.hints, group.many, group.unlikes, group.goals)
+            told = search.found(group)
             papers.extend(told)
             for number, paper in enumerate(told):
                 if paper is None:

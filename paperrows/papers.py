@@ -24,7 +24,7 @@ class Forms:
 
     def parted(self, unlike):
         """Tell the two forms of which one holds where an unlike isn't 0: above it, and below it."""
-        return (unlike[0] - 1, *unlike[1:]), contrary(unlike)
+        return sides_of(unlike)
 
 
 class Look:
@@ -73,6 +73,11 @@ class Look:
 def shows(paper, hints, unlikes, goal):
     """Tell whether anything is a paper that shows a goal by hints and unlikes."""
     return Look(Forms(), len(goal), unlikes, goal).shows(paper, list(hints), MOST_WITHIN)
+
+
+def sides_of(unlike):
+    """Tell the two forms of which one holds where an unlike isn't 0: above it, and below it."""
+    return (unlike[0] - 1, *unlike[1:]), contrary(unlike)
 
 
 def size(paper):

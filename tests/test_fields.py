@@ -33,7 +33,9 @@ class FieldsTest(unittest.TestCase):
                 for form in [(most,) * length, (-most,) * length, (0,) * length,
                              tuple(chance.randint(-most, most) for _ in range(length))]:
                     self.assertEqual(fields.unpacked(fields.packed(form), length), form)
-                    self.assertEqual(fields.constant(fields.packed(form)), form[0])
+                    places = [0, *[at for at in range(1, length) if form[at] != 0]]
+                    self.assertEqual(fields.places_used([fields.packed(form)]), places)
+                    self.assertEqual(fields.numbers_at(fields.packed(form), places), tuple(form[at] for at in places))
                     self.assertEqual(fields.unpacked(-1 - fields.packed(form), length),
                                      (-1 - form[0], *[-number for number in form[1:]]))
 
@@ -189,24 +191,37 @@ class AnotherWayTest(unittest.TestCase):
             weights.append(0)
         return (*paper[:-1], weights)
 
+    def test_places_of_several_forms(self):
+        fields = Fields(bits_of(9), 5)
+        forms = [(1, 0, -2, 0, 0), (0, 0, 2, 0, 0), (0, 0, 0, 0, -9)]
+        self.assertEqual(fields.places_used([fields.packed(form) for form in forms]), [0, 2, 4])
+        self.assertEqual(fields.places_used([]), [0])
+        self.assertEqual(fields.numbers_at(fields.packed(forms[0]), [0, 2, 4]), (1, -2, 0))
+
     def test_found_at_once_or_by_moves(self):
-        # The first ones need one hint or two, the others three and more, or k above 1.
+        # The contrary comes to 0 first, or a hint is further below; then one hint is enough, or there are more moves.
         hints = [(0, 1, 0, 0), (-2, 0, 1, 0), (1, 0, 0, 1)]
         for goal, paper in (
             ((0, 1, 0, 0), ("sum", 1, [1, 0, 0])),
             ((5, 1, 0, 0), ("sum", 1, [1, 0, 0])),
             ((-2, 1, 1, 0), ("sum", 1, [1, 1, 0])),
             ((0, 2, 0, 0), ("sum", 1, [2, 0, 0])),
+            ((0, 3, 0, 0), ("sum", 1, [3, 0, 0])),
             ((-1, 1, 1, 1), ("sum", 1, [1, 1, 1])),
             ((-5, 0, 3, 1), ("sum", 1, [0, 3, 1])),
             ((0, 0, 0, 0), ("sum", 1, [0, 0, 0])),
         ):
             self.assertEqual(found(hints, [], goal), paper)
-            self.assertEqual(found([(at, *[0] * 3) for at in (0, 3)] + hints, [], goal)[0], "sum")
+            self.assertEqual(found([(at, *[0] * 3) for at in (0, 3)] + hints, [], goal), (*paper[:2], [0, 0, *paper[2]]))
             self.assertIsNone(found(hints, [], (goal[0] - 9, *goal[1:])))
+        self.assertEqual(found([(0, 2)], [], (0, 1)), ("sum", 2, [1]))
+        self.assertEqual(found([(0, 4)], [], (0, 6)), ("sum", 2, [3]))
+        self.assertEqual(found([(0, -2)], [], (0, -1)), ("sum", 2, [1]))
         self.assertEqual(found([(0, 1), (-5, 1), (-5, 1), (3, 1)], [], (-5, 1)), ("sum", 1, [0, 1, 0, 0]))
         self.assertEqual(found([(0, 1), (4, -1), (-5, 1)], [], (-9, 1)), ("never", [0, 1, 1]))
-        self.assertEqual(found([(0, 1), (-1, 0)], [], (0, 1)), ("never", [0, 1]))
+        self.assertEqual(found([(0, 1), (-3, 0)], [], (0, 1)), ("never", [0, 1]))
+        self.assertEqual(found([(-3, 0), (1, 1)], [], (1, 1)), ("never", [1, 0]))
+        self.assertEqual(found([(-1, 0)], [], (0, 5)), ("never", [1]))
 
 
 if __name__ == "__main__":
