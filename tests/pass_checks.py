@@ -5,6 +5,7 @@ import itertools
 import unittest
 
 import reference
+from by_text import area, claims, given
 from paperrows.bundles import Bundle
 from paperrows.errors import NoArea, NoRule, Unlet
 from paperrows.finder import shown
@@ -13,20 +14,6 @@ from paperrows.rules import Rule, is_start
 from paperrows.runs import run
 
 STOP = ("stop",)
-NAMES = ("p0", "p1", "p2", "r0", "r1", "r2", "r3", "r4", "r5")
-
-
-def claims(*texts):
-    return [reference.form_of(text, NAMES) for text in texts]
-
-
-def given(*texts):
-    return [reference.form_of(text, NAMES[:3]) for text in texts]
-
-
-def area(first, end, rights, *bounds):
-    low, high = given(*bounds) if bounds else (None, None)
-    return (*given(first, end), rights, low, high)
 
 
 def starts(rule, span=(-1, 0, 1, 3)):

@@ -6,58 +6,11 @@ import random
 import unittest
 
 import chance as by_chance
+from by_text import area, below, claims, given, if_so, let, read, while_so, write
 from paperrows.counters import counter
 from paperrows.errors import NoArea, NoDeeds, NoNumber, NoRule, Unmade
 from paperrows.maker import made
 from paperrows.rules import Rule, is_start
-from reference import form_of
-
-P = ("p0", "p1", "p2")
-
-
-def total(text):
-    return form_of(text, ["a", "b", "c", "d"])
-
-
-def keeps(*texts):
-    return [form_of(text, [*P, "a", "b", "c", "d"]) for text in texts]
-
-
-def given(*texts):
-    return [form_of(text, P) for text in texts]
-
-
-def ends(*texts):
-    return [form_of(text, [*P, "r0", "r1", "r2", "r3", "r4", "r5"]) for text in texts]
-
-
-def area(first, end, rights, *bounds):
-    low, high = given(*bounds) if bounds else (None, None)
-    return (*given(first, end), rights, low, high)
-
-
-def let(name, text):
-    return ("let", name, total(text))
-
-
-def read(name, number, text):
-    return ("read", name, number, total(text))
-
-
-def write(number, text, name):
-    return ("write", number, total(text), name)
-
-
-def below(text):
-    return ("below", total(text))
-
-
-def while_so(test, kept, *deeds):
-    return ("while", test, keeps(*kept), tuple(deeds))
-
-
-def if_so(test, kept, deeds, others=(), behind=()):
-    return ("if", test, keeps(*kept), tuple(deeds), tuple(others), keeps(*behind))
 
 
 class Tried:
@@ -167,17 +120,17 @@ class CounterTest(unittest.TestCase):
                 made(deeds, rule)
 
     def test_reach(self):
-        rule = Rule([], [], ends("p0 + 3", "p1 + 1", "p2 + 2"))
+        rule = Rule([], [], claims("p0 + 3", "p1 + 1", "p2 + 2"))
         self.told((), rule, None, reach=0)
         self.told((), rule, None, reach=1)
         self.told((), rule, ((-2, -2, -2), {}, "ends", 0), reach=2)
         self.told((), rule, ((-2, -2, -2), {}, "ends", 0))
         self.told((), rule, ((-3, -3, -3), {}, "ends", 0), reach=3)
         self.told((), rule, ((-4, -4, -4), {}, "ends", 0), reach=4)
-        self.told((), Rule([], [], ends("p2")), ((-2, -2, -2), {}, "ends", 0))
-        self.told((), Rule([], [], ends("p2 - p1 - p0 + 4")), ((1, 2, -2), {}, "ends", 0))
-        self.told((), Rule([], [], ends("-p0 - p1 - p2 + 5")), ((2, 2, 2), {}, "ends", 0))
-        self.told((), Rule([], [], ends("-1")), ((0, 0, 0), {}, "ends", 0), reach=0)
+        self.told((), Rule([], [], claims("p2")), ((-2, -2, -2), {}, "ends", 0))
+        self.told((), Rule([], [], claims("p2 - p1 - p0 + 4")), ((1, 2, -2), {}, "ends", 0))
+        self.told((), Rule([], [], claims("-p0 - p1 - p2 + 5")), ((2, 2, 2), {}, "ends", 0))
+        self.told((), Rule([], [], claims("-1")), ((0, 0, 0), {}, "ends", 0), reach=0)
 
     def test_no_reach(self):
         for thing in (-1, 5, True, False, "2", None, [2], 10 ** 60, (1,)):
@@ -185,11 +138,11 @@ class CounterTest(unittest.TestCase):
                 counter((), Rule(), reach=thing)
 
     def test_the_first_one_in_turn(self):
-        self.told((), Rule(given("p0 - 1", "p2"), [], ends("p1 - 1")), ((1, -2, 0), {}, "ends", 0))
-        self.told((), Rule(given("p0"), [], ends("p2 + p1 - 1", "p1 + 5")), ((0, -2, -2), {}, "ends", 0))
-        self.told((), Rule([], [], ends("p2 - p1 + 3")), ((-2, 2, -2), {}, "ends", 0))
-        self.told((), Rule([], [], ends("p2 + 2 - p1 * 0 + p0 * 0")), None)
-        self.told((let("d", "a + b"),), Rule(given("p0 + p1"), [], ends("r3 - 1")), ((-2, 2, -2), {}, "ends", 1))
+        self.told((), Rule(given("p0 - 1", "p2"), [], claims("p1 - 1")), ((1, -2, 0), {}, "ends", 0))
+        self.told((), Rule(given("p0"), [], claims("p2 + p1 - 1", "p1 + 5")), ((0, -2, -2), {}, "ends", 0))
+        self.told((), Rule([], [], claims("p2 - p1 + 3")), ((-2, 2, -2), {}, "ends", 0))
+        self.told((), Rule([], [], claims("p2 + 2 - p1 * 0 + p0 * 0")), None)
+        self.told((let("d", "a + b"),), Rule(given("p0 + p1"), [], claims("r3 - 1")), ((-2, 2, -2), {}, "ends", 1))
 
     def test_each_word(self):
         rule = Rule(given("p0 - 2"), [area("0", "p0", "both", "-3", "3"), area("p0", "p0 + 2", "read")])
@@ -205,10 +158,10 @@ class CounterTest(unittest.TestCase):
         self.told((while_so(below("d - a"), ("-d + 1",), let("d", "d + 1")),), rule, (p, {}, "keep", 0))
         self.told((let("b", "1"), if_so(below("a"), ("a - 3",), ())), rule, (p, {}, "keep", 1))
         self.told((if_so(below("a"), (), (), (), ("a - 2", "d - 1")),), rule, (p, {}, "behind", 0))
-        self.told((let("d", "1"), let("d", "2")), Rule(given("p0 - 2"), [], ends("r3 - 2", "r0 - 3")), (p, {}, "ends", 2))
+        self.told((let("d", "1"), let("d", "2")), Rule(given("p0 - 2"), [], claims("r3 - 2", "r0 - 3")), (p, {}, "ends", 2))
 
     def test_what_is_broken_first(self):
-        rule = Rule([], [], ends("-1"))
+        rule = Rule([], [], claims("-1"))
         p = (-2, -2, -2)
         self.told((read("a", 0, "0"), if_so(below("0"), ("-1",), (), (), ("-1",))), rule, (p, {}, "forbidden", 0))
         self.told((if_so(below("0"), ("-1",), [read("a", 0, "0")], (), ("-1",)),), rule, (p, {}, "keep", 0))
@@ -220,41 +173,41 @@ class CounterTest(unittest.TestCase):
         above, under = area("5", "7", "both", "3", "8"), area("10", "12", "read", "-9", "-4")
         free = area("20", "22", "both")
         fails = (read("d", 1, "5"), let("d", "d - 4"))
-        rule = Rule([], [first, above, under], ends("r3"))
+        rule = Rule([], [first, above, under], claims("r3"))
         self.told(fails, rule, ((-2, -2, -2), {5: 3, 6: 3, 10: -9, 11: -9}, "ends", 2))
         self.told((read("d", 2, "11"), let("d", "d + 8")), rule,
                   ((-2, -2, -2), {5: 3, 6: 3, 10: -9, 11: -9}, "ends", 2))
-        self.told((read("d", 0, "1"), let("d", "d - 1")), Rule([], [first, free], ends("r3")), ((-2, -2, -2), {}, "ends", 2))
-        hung = Rule(given("p0 + 1"), [area("p0", "p0 + 1", "both", "p1", "p1 + 1")], ends("p1 - 1"))
+        self.told((read("d", 0, "1"), let("d", "d - 1")), Rule([], [first, free], claims("r3")), ((-2, -2, -2), {}, "ends", 2))
+        hung = Rule(given("p0 + 1"), [area("p0", "p0 + 1", "both", "p1", "p1 + 1")], claims("p1 - 1"))
         self.told((), hung, ((-1, -2, -2), {-1: -2}, "ends", 0))
-        self.told((), Rule(given("p0 + 1", "p1 + 1"), hung.areas, ends("p1 - 1")), ((-1, -1, -2), {}, "ends", 0))
+        self.told((), Rule(given("p0 + 1", "p1 + 1"), hung.areas, claims("p1 - 1")), ((-1, -1, -2), {}, "ends", 0))
         # What is written isn't told: the memory is the start's.
-        self.told((let("d", "4"), write(0, "5", "d")), Rule([], [above], ends("-1")),
+        self.told((let("d", "4"), write(0, "5", "d")), Rule([], [above], claims("-1")),
                   ((-2, -2, -2), {5: 3, 6: 3}, "ends", 2))
-        empty = Rule([], [area("5", "5", "both", "3", "8")], ends("-1"))
+        empty = Rule([], [area("5", "5", "both", "3", "8")], claims("-1"))
         self.told((), empty, ((-2, -2, -2), {}, "ends", 0))
 
     def test_what_is_no_start(self):
-        self.told((), Rule(given("-1"), [], ends("-1")), None)
-        self.told((), Rule([], [area("0", "401", "read")], ends("-1")), None)
-        self.told((), Rule([], [area("0", "400", "read")], ends("-1")), ((-2, -2, -2), {}, "ends", 0))
-        self.told((), Rule([], [area("0", "401", "read", "0", "1")], ends("-1")), None)
-        self.told((), Rule([], [area("0", "400 + p0", "read", "1", "1")], ends("-p0 + 1")), None)
-        self.told((), Rule([], [area("0", "400 + p0", "read", "1", "1")], ends("-p0 - 1")),
+        self.told((), Rule(given("-1"), [], claims("-1")), None)
+        self.told((), Rule([], [area("0", "401", "read")], claims("-1")), None)
+        self.told((), Rule([], [area("0", "400", "read")], claims("-1")), ((-2, -2, -2), {}, "ends", 0))
+        self.told((), Rule([], [area("0", "401", "read", "0", "1")], claims("-1")), None)
+        self.told((), Rule([], [area("0", "400 + p0", "read", "1", "1")], claims("-p0 + 1")), None)
+        self.told((), Rule([], [area("0", "400 + p0", "read", "1", "1")], claims("-p0 - 1")),
                   ((0, -2, -2), {place: 1 for place in range(400)}, "ends", 0))
-        self.told((), Rule([], [area("0", str(10 ** 60), "both")], ends("-1")), None)
-        self.told((), Rule([], [area("0", str(10 ** 60), "both", "1", "2")], ends("-1")), None)
-        self.told((), Rule([], [area("3", "1", "both")], ends("-1")), None)
-        self.told((), Rule([], [area("1", "3", "both", "2", "1")], ends("-1")), None)
+        self.told((), Rule([], [area("0", str(10 ** 60), "both")], claims("-1")), None)
+        self.told((), Rule([], [area("0", str(10 ** 60), "both", "1", "2")], claims("-1")), None)
+        self.told((), Rule([], [area("3", "1", "both")], claims("-1")), None)
+        self.told((), Rule([], [area("1", "3", "both", "2", "1")], claims("-1")), None)
         # Numbers of the memory go up to a million, as its places do.
         for low, word in (("1000000", "ends"), ("1000001", None)):
-            told = counter((), Rule([], [area("7", "8", "both", low, low)], ends("-1")))
+            told = counter((), Rule([], [area("7", "8", "both", low, low)], claims("-1")))
             self.assertEqual(told and told[2], word)
         for first, word in ((999999, "ends"), (1000000, None), (-1000000, "ends"), (-1000001, None)):
-            rule = Rule([], [area(str(first), str(first + 2), "both", "1", "1")], ends("-1"))
+            rule = Rule([], [area(str(first), str(first + 2), "both", "1", "1")], claims("-1"))
             told = counter((), rule)
             self.assertEqual(told and told[2], word)
-        self.told((), Rule([], [area(str(10 ** 20), str(10 ** 20 + 1), "both", "-1", "1")], ends("-1")),
+        self.told((), Rule([], [area(str(10 ** 20), str(10 ** 20 + 1), "both", "-1", "1")], claims("-1")),
                   ((-2, -2, -2), {}, "ends", 0))
 
     def test_budget(self):
@@ -265,10 +218,10 @@ class CounterTest(unittest.TestCase):
         self.told(counting(149), Rule(), ((0, 0, 0), {}, "keep", 0), reach=0)
         self.told((while_so(below("-1"), ()), read("a", 0, "0")), Rule(), None, reach=0)
         forever = while_so(below("-1"), ())
-        self.told((let("a", "1"), forever, let("b", "1")), Rule([], [], ends("-1")), None, reach=1)
+        self.told((let("a", "1"), forever, let("b", "1")), Rule([], [], claims("-1")), None, reach=1)
         # 299 are taken by the loop, and one more by a let or a read.
         loop = while_so(below("d - 149"), (), let("d", "d + 1"))
-        wrong = Rule([], [], ends("-1"))
+        wrong = Rule([], [], claims("-1"))
         self.told((loop,), wrong, ((0, 0, 0), {}, "ends", 2), reach=0)
         self.told((loop, let("d", "0")), wrong, ((0, 0, 0), {}, "ends", 3), reach=0)
         self.told((loop, let("d", "0"), let("d", "0")), wrong, None, reach=0)
@@ -280,11 +233,11 @@ class CounterTest(unittest.TestCase):
 
     def test_nothing_breaks(self):
         self.told((), Rule(), None)
-        self.told((let("d", "a + b"),), Rule(given("p0", "p1"), [], ends("r3")), None)
+        self.told((let("d", "a + b"),), Rule(given("p0", "p1"), [], claims("r3")), None)
 
     def test_refusals(self):
-        wrong = Rule([], [], ends("r4"))
-        for rule in (wrong, Rule([], [], ends("0", "p0 - 3*r5")), None, (), "rule"):
+        wrong = Rule([], [], claims("r4"))
+        for rule in (wrong, Rule([], [], claims("0", "p0 - 3*r5")), None, (), "rule"):
             with self.assertRaises(NoRule):
                 counter((), rule, reach=9)
         with self.assertRaises(NoDeeds) as told:

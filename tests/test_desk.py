@@ -2,13 +2,14 @@
 
 import unittest
 
+from by_text import area, claims, given
 from paperrows.desk import Desk
 from paperrows.errors import NoArea, NoName, NoPapers, NoPass, NoSaying, NoStart, NoText, Unlet, Unshown
 from paperrows.finder import shown
 from paperrows.passes import passed
 from paperrows.rules import Rule
 from paperrows.texts import bundle_text, read_bundle
-from pass_checks import STOP, area, claims, given
+from pass_checks import STOP
 
 RULE_TEXT = "p0 , -p0 + 9 / 0 to p0 both -9 to 9 , p0 + 1 to 2*p0 + 3 read / -p0 + r0"
 RULE = Rule(given("p0", "9 - p0"), [area("0", "p0", "both", "-9", "9"), area("p0 + 1", "2*p0 + 3", "read")], claims("r0 - p0"))

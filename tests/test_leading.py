@@ -4,12 +4,13 @@ import random
 
 import chance as by_chance
 import reference
+from by_text import claims, given
 from paperrows.bundles import Bundle
 from paperrows.finder import shown
 from paperrows.leading import led_on
 from paperrows.papers import size
 from paperrows.rules import Rule
-from pass_checks import STOP, PassTest, claims, given
+from pass_checks import STOP, PassTest
 
 
 def within(many, paper, length=10):

@@ -6,6 +6,7 @@ import unittest
 
 import chance as by_chance
 import reference
+from by_text import area, below, claims, given, if_so, keeps, let, read, same, while_so, write
 from paperrows.bundles import Bundle
 from paperrows.counters import counter
 from paperrows.deeds import deeds_run, look_deeds
@@ -16,58 +17,6 @@ from paperrows.maker import made
 from paperrows.rules import Rule, is_start
 from paperrows.runs import run
 from paperrows.texts import bundle_text, read_bundle
-
-MOST = 1000000
-
-
-def total(text):
-    return reference.form_of(text, ["a", "b", "c", "d"])
-
-
-def keeps(*texts):
-    return [reference.form_of(text, ["p0", "p1", "p2", "a", "b", "c", "d"]) for text in texts]
-
-
-def given(*texts):
-    return [reference.form_of(text, ["p0", "p1", "p2"]) for text in texts]
-
-
-def ends(*texts):
-    return [reference.form_of(text, ["p0", "p1", "p2", "r0", "r1", "r2", "r3", "r4", "r5"]) for text in texts]
-
-
-def area(first, end, rights, *bounds):
-    low, high = given(*bounds) if bounds else (None, None)
-    return (*given(first, end), rights, low, high)
-
-
-def let(name, text):
-    return ("let", name, total(text))
-
-
-def read(name, number, text):
-    return ("read", name, number, total(text))
-
-
-def write(number, text, name):
-    return ("write", number, total(text), name)
-
-
-def below(text):
-    return ("below", total(text))
-
-
-def same(text):
-    return ("same", total(text))
-
-
-def if_so(test, kept, deeds, others=(), behind=()):
-    return ("if", test, keeps(*kept), tuple(deeds), tuple(others), keeps(*behind))
-
-
-def while_so(test, kept, *deeds):
-    return ("while", test, keeps(*kept), tuple(deeds))
-
 
 # An area of p0 places that may be written with -9 to 9, one of two places that may be read, and one for any worths.
 RULE = Rule(given("p0", "p1"), [area("0", "p0", "both", "-9", "9"), area("p0", "p0 + 2", "read", "0", "5"),
@@ -119,9 +68,9 @@ class EachKindTest(MakerTest):
     def test_no_deeds(self):
         self.made(())
         self.made((), Rule())
-        bundle = self.made((), Rule(given("p0"), [], ends("r0", "r0 - p0 + 1", "-r3")))
+        bundle = self.made((), Rule(given("p0"), [], claims("r0", "r0 - p0 + 1", "-r3")))
         self.assertEqual(bundle.rows[-1], ("stop",))
-        self.unmade((), 0, "ends", Rule([], [], ends("r0")))
+        self.unmade((), 0, "ends", Rule([], [], claims("r0")))
 
     def test_lets(self):
         for text in ("0", "5", "a", "-a", "a + 1", "d", "b + c", "b - c", "2*a - 3*b + c - d + 7", "a + b + c + d",
@@ -134,7 +83,7 @@ class EachKindTest(MakerTest):
             for text in ("a + b", "-b + 3", "2*a + b - c + d", "1000000*a - 1000000*c"):
                 told = run(made((let("d", "c + 1"), let(name, text)), RULE).rows, RULE, (3, 5, -2))
                 worths = [3, 5, -2, -1]
-                form = total(text)
+                form = reference.form_of(text, ["a", "b", "c", "d"])
                 worths["abcd".index(name)] = form[0] + sum(one * other for one, other in zip(form[1:], worths))
                 self.assertEqual(told.registers[:4], tuple(worths))
 
@@ -154,19 +103,19 @@ class EachKindTest(MakerTest):
         self.made((while_so(below("1"), ()),))
 
     def test_how_a_test_came_out_is_known(self):
-        rule = Rule([], [], ends("r3"))
+        rule = Rule([], [], claims("r3"))
         self.made((if_so(below("a - b"), (), [let("d", "b - a - 1")], [let("d", "a - b")], ("d",)),), rule)
         self.unmade((if_so(below("a - b"), (), [let("d", "b - a - 2")], [let("d", "a - b")], ("d",)),), 0, "behind", rule)
         self.unmade((if_so(below("a - b"), (), [let("d", "b - a - 1")], [let("d", "a - b - 1")], ("d",)),), 0, "behind", rule)
         self.made((if_so(same("a - b"), (), [let("d", "5*a - 5*b")], [let("d", "0")], ("d", "-d")),), rule)
         # Apart from one another, the one that is less is less by 1.
-        other = Rule(given("p0 - p1"), [], ends("r3"))
+        other = Rule(given("p0 - p1"), [], claims("r3"))
         self.made((if_so(same("a - b"), ("a - b",), [let("d", "0")], [let("d", "a - b - 1")], ("d",)),), other)
         self.unmade((if_so(same("a - b"), ("a - b",), [let("d", "0")], [let("d", "a - b - 2")], ("d",)),), 0, "behind", other)
         self.unmade((if_so(same("a - b"), (), [let("d", "0")], [let("d", "a - b - 1")], ("d",)),), 0, "behind", other)
 
     def test_nothing_else_is_known_behind_a_station(self):
-        rule = Rule(given("p0"), [], ends("r0"))
+        rule = Rule(given("p0"), [], claims("r0"))
         self.made((let("d", "1"),), rule)
         self.unmade((if_so(below("b"), (), ()),), 1, "ends", rule)
         self.unmade((if_so(below("b"), ("a",), ()),), 1, "ends", rule)
@@ -175,7 +124,7 @@ class EachKindTest(MakerTest):
         self.unmade((while_so(below("b"), ()),), 1, "ends", rule)
         self.made((while_so(below("b"), ("a",)),), rule)
         # The facts of p0 are known all the same.
-        self.made((while_so(below("b"), ()), let("a", "0")), Rule(given("p0"), [], ends("p0", "r0")))
+        self.made((while_so(below("b"), ()), let("a", "0")), Rule(given("p0"), [], claims("p0", "r0")))
 
 
 class LoopsTest(MakerTest):
@@ -238,7 +187,7 @@ class LoopsTest(MakerTest):
 class WhatLacksTest(MakerTest):
 
     def test_each_sort(self):
-        few = Rule(given("p0 - 3"), RULE.areas, ends("r0 - 3"))
+        few = Rule(given("p0 - 3"), RULE.areas, claims("r0 - 3"))
         self.made((read("d", 0, "2"),), few)
         self.unmade((read("d", 0, "-1"),), 0, "first", few)
         self.unmade((let("c", "0"), read("d", 0, "3")), 1, "end", few)
@@ -289,8 +238,8 @@ class RefusalsTest(MakerTest):
         for register in ("r4", "r5"):
             for text in (register, f"-{register}", f"5*{register} + r0", f"p0 - 1000000*{register}"):
                 with self.assertRaises(NoRule):
-                    made((), Rule([], [], ends("0", text)))
-        self.made((), Rule([], [], ends("0", "r3")))
+                    made((), Rule([], [], claims("0", text)))
+        self.made((), Rule([], [], claims("0", "r3")))
 
     def test_no_area(self):
         rule = Rule([], RULE.areas[:2])
@@ -306,16 +255,16 @@ class RefusalsTest(MakerTest):
             self.assertEqual(told.exception.at, at)
 
     def test_which_one_comes(self):
-        wrong_ends = Rule([], [], ends("r5"))
+        wrong_ends = Rule([], [], claims("r5"))
         with self.assertRaises(NoDeeds) as told:
             made((let("a", "1"), 5), None)
         self.assertEqual(told.exception.at, 1)
         with self.assertRaises(NoRule):
             made((read("a", 0, "0"),), wrong_ends)
         with self.assertRaises(NoArea):
-            made((let("a", "1"), read("a", 0, "0")), Rule([], [], ends("-1")))
+            made((let("a", "1"), read("a", 0, "0")), Rule([], [], claims("-1")))
         with self.assertRaises(Unmade):
-            made((), Rule([], [], ends("-1")))
+            made((), Rule([], [], claims("-1")))
 
     def test_what_is_told_is_the_askers_own(self):
         kept = keeps(*PLACED)

@@ -5,6 +5,7 @@ import random
 
 import chance as by_chance
 import reference
+from by_text import area, claims, given
 from paperrows.bundles import Bundle
 from paperrows.deeds import deeds_run
 from paperrows.errors import NoArea, NoPass, NoRule, Unlet, Unmade
@@ -19,7 +20,7 @@ from paperrows.sparing import spared
 from paperrows.sureness import surely
 from paperrows.texts import bundle_text, read_bundle
 from paperrows.thinning import thinned
-from pass_checks import STOP, PassTest, area, claims, given
+from pass_checks import STOP, PassTest
 
 WORDS = ("thinned", "spared", "led_on", "surely")
 PASSES = (thinned, spared, led_on, surely)

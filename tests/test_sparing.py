@@ -4,12 +4,13 @@ import random
 
 import chance as by_chance
 import reference
+from by_text import area, claims, given
 from paperrows.bundles import Bundle
 from paperrows.finder import shown
 from paperrows.rows import reads, sets
 from paperrows.rules import Rule
 from paperrows.sparing import spared
-from pass_checks import STOP, PassTest, area, claims, given
+from pass_checks import STOP, PassTest
 
 RECKONS = ("set", "copy", "plus", "minus", "more", "fold")
 

@@ -5,12 +5,13 @@ import random
 
 import chance as by_chance
 import reference
+from by_text import area, claims, given
 from paperrows.bundles import Bundle
 from paperrows.errors import NoNames, NoRule, Unlet
 from paperrows.finder import shown
 from paperrows.rules import Rule
 from paperrows.thinning import renamed, thinned
-from pass_checks import STOP, PassTest, area, claims, given
+from pass_checks import STOP, PassTest
 
 ORDERS = [list(order) for order in itertools.permutations((3, 4, 5))]
 
