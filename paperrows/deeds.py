@@ -73,50 +73,52 @@ class Course:
 
         Tell a word and a deed's number: `ended`, `open`, `forbidden` (the deed's), `keep` or `behind` (the place's).
         """
-        steps, end = self.steps, len(self.steps)
-        while self.at < end:
-            step = steps[self.at]
+        steps, worths, at, left = self.steps, self.worths, self.at, self.budget
+        deed = None
+        while at < len(steps):
+            step = steps[at]
             word = step[0]
+            at += 1
             if word == "jump":
-                self.at = step[2]
+                at = step[2]
             elif word == "keep" or word == "behind":
-                self.at += 1
                 if stations:
-                    return word, step[1]
-            elif self.budget == 0:
-                return "open", None
-            elif word == "test":
-                self.budget -= 1
-                told = _sum_here(step[3], self.worths)
-                so = told < 0 if step[2] else told == 0
-                self.at = self.at + 1 if so else step[4]
-            elif self._is_done(step):
-                self.budget -= 1
-                self.at += 1
+                    deed = step[1]
+                    break
+            elif left == 0:
+                word = "open"
+                break
             else:
-                return "forbidden", step[1]
-        return "ended", None
+                left -= 1
+                constant, a, b, c, d = step[3]
+                told = constant + a * worths[0] + b * worths[1] + c * worths[2] + d * worths[3]
+                if word == "let":
+                    worths[step[2]] = told
+                elif word == "test":
+                    so = told < 0 if step[2] else told == 0
+                    at = at if so else step[4]
+                elif not self._is_done(word, step[2], told, step[4]):
+                    word, deed = "forbidden", step[1]
+                    break
+        else:
+            word = "ended"
+        self.at, self.budget = at, left
+        return word, deed
 
-    def _is_done(self, step):
-        """Do a let, read or write and tell True, or tell False where it is forbidden."""
-        word, _, name, form = step[:4]
-        told = _sum_here(form, self.worths)
-        if word == "let":
-            self.worths[name] = told
-            return True
-        number = step[4]
+    def _is_done(self, word, name, place, number):
+        """Do a read or write at a place of an area and tell True, or tell False where it is forbidden."""
         if number >= len(self.areas):
             return False
         first, end, rights, low, high = self.areas[number]
-        if told < first or told >= end:
+        if place < first or place >= end:
             return False
         if word == "read":
-            self.worths[name] = self.held.get(told, 0)
+            self.worths[name] = self.held.get(place, 0)
             return True
         put = self.worths[name]
         if rights == "read" or (low is not None and not low <= put <= high):
             return False
-        self.held[told] = put
+        self.held[place] = put
         return True
 
 
@@ -201,8 +203,3 @@ def _is_sum(thing):
 
 def _is_test(thing):
     return isinstance(thing, tuple) and len(thing) == 2 and thing[0] in ("below", "same") and _is_sum(thing[1])
-
-
-def _sum_here(form, worths):
-    constant, a, b, c, d = form
-    return constant + a * worths[0] + b * worths[1] + c * worths[2] + d * worths[3]
