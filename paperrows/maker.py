@@ -100,7 +100,7 @@ class Writer:
         behind = self._mark()
         self.waiting.append((inner, claims, deeds, number + 1, behind))
         self._write_deeds(deed[4], number + 1 + sum([how_many(one) for one in deeds]))
-        self._tell_place(behind, [(*form, 0, 0) for form in deed[5]], (number, "behind"))
+        self._tell_place(behind, [(*one, 0, 0) for one in deed[5]], (number, "behind"))
 
     def _write_let(self, holder, form):
         if not any(form[1:]):
